@@ -1,0 +1,1 @@
+"""Zeroorone: algebra in which every answer has a paper."""

@@ -1,0 +1,1 @@
+"""Grounds and their numbers."""

@@ -1,0 +1,1 @@
+"""Primes, divisors and orders."""
