@@ -14,6 +14,19 @@ FUNCTIONS = {
         rests_answer(pairs)""",
     "zeroorone.primes.primes": """is_prime(number) next_prime(number) prime_answer(number) prime_parts_answer(number)
         divisors(number) units_number(number) order_of(modulus,number) least_maker(prime)""",
+    "zeroorone.tables.solving": """is_table(ground,value) unit_table(ground,size) table_product(ground,one,other)
+        reduced_rows(ground,table) leads(ground,table) rank(ground,table) kernel(ground,table)
+        determinant(ground,table) undoing(ground,table) solve_answer(ground,table,vector) rank_answer(ground,table)""",
+    "zeroorone.tables.whole": """whole_answer(table,vector) stairs(table) is_stairs(value) stairs_answer(table)
+        steps(table) steps_answer(table)""",
+    "zeroorone.tables.atleast": """slacks(table,goal,vector) is_reaching(table,goal,value) is_bar(table,goal,value)
+        reach_answer(table,goal) greatest_answer(table,goal,wish) follow_answer(table,goal,wish,bound)
+        bad_lots(table,goal)""",
+    "zeroorone.letter.rests": """is_poly(ground,value) poly_sum(ground,one,other) poly_less(ground,one,other)
+        poly_product(ground,one,other) poly_scaled(ground,poly,number) poly_power(ground,poly,many)
+        poly_divided(ground,one,other) value_at(ground,poly,number) shifted(ground,poly,number) derived(ground,poly)
+        monic_of(ground,poly) common_answer(ground,one,other) mix_answer(ground,one,other,wish)
+        join_answer(ground,pairs) square_answer(ground,poly) resultant_answer(ground,one,other)""",
 }
 CLASSES = {
     "zeroorone.errors": """PaperError InvalidGround InvalidPoly InvalidForm InvalidTable InvalidName InvalidClaim
@@ -22,6 +35,10 @@ CLASSES = {
 CONSTANTS = {
     "zeroorone.base.numbers": {"MAX_GROUND": 9999, "MAX_DIGITS": 60, "MAX_EXPONENT": 1000, "MAX_RESTS": 6},
     "zeroorone.primes.primes": {"MOST": 10 ** 8},
+    "zeroorone.tables.solving": {"MAX_SIDE": 12},
+    "zeroorone.tables.whole": {"MAX_WHOLE": 6},
+    "zeroorone.tables.atleast": {"MOST_WISHES": 10, "MOST_LETTERS": 6, "MOST_TRIED": 6},
+    "zeroorone.letter.rests": {"MAX_DEGREE": 12, "MOST_PAIRS": 4},
 }
 
 

@@ -1,0 +1,1 @@
+"""Polys: polynomials in one letter."""

@@ -1,0 +1,1 @@
+"""Tables over a ground, tables of integers, and wishes of tables."""

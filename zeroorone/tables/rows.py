@@ -1,0 +1,109 @@
+"""Tables of any size without checks: rows are cleared column by column, in integers alone."""
+from zeroorone.base.plain import integer_dot, number_of, quotient, undone_modulo, vector_fits, whole_row
+
+
+def length_fits(value, most):
+    """Whether the value is a tuple of at least one member, and of at most so many, if that is not None."""
+    return isinstance(value, tuple) and len(value) >= 1 and (most is None or len(value) <= most)
+
+
+def rows_fit(value, most_rows, most_columns):
+    """Whether the value is a tuple of equally long tuples, with these limits for both."""
+    if not length_fits(value, most_rows) or not all([length_fits(row, most_columns) for row in value]):
+        return False
+    return len({len(row) for row in value}) == 1
+
+
+def table_fits(ground, value, most_rows, most_columns, limit):
+    """Whether the value is a table of the ground of at most so many rows and columns, below the limit."""
+    if not rows_fit(value, most_rows, most_columns):
+        return False
+    return all([vector_fits(ground, row, len(row), limit) for row in value])
+
+
+def turned(table):
+    """The table with rows and columns exchanged."""
+    return tuple([tuple([row[column] for row in table]) for column in range(len(table[0]))])
+
+
+def unit_rows(ground, size):
+    """The unit table."""
+    one, zero = number_of(ground, 1), number_of(ground, 0)
+    return tuple([tuple([one if i == j else zero for j in range(size)]) for i in range(size)])
+
+
+def product_rows(ground, one, other):
+    """The product of two tables that fit."""
+    left = [whole_row(ground, row) for row in one]
+    right = [whole_row(ground, column) for column in turned(other)]
+    return tuple([
+        tuple([quotient(ground, integer_dot(row, column), bottom * below) for column, below in right])
+        for row, bottom in left
+    ])
+
+
+def beside(one, other):
+    """The rows of the first table, those of the second one behind them."""
+    return [list(row) + list(further) for row, further in zip(one, other)]
+
+
+def lowered(ground, row, upper, column, before):
+    """The row with 0 in the column, by a multiple of the upper row, divided by the lead of the step before."""
+    lead, low = upper[column], row[column]
+    mixed = [lead * number - low * over for number, over in zip(row, upper)]
+    if ground == 0:
+        # All numbers are determinants here, so the division leaves no rest.
+        return [number // before for number in mixed]
+    back = undone_modulo(before, ground)
+    return [number * back % ground for number in mixed]
+
+
+def find_lead(rows, top, column):
+    """The index of the first row from top on with a number other than 0 in the column; None if there is none."""
+    for i in range(top, len(rows)):
+        if rows[i][column] != 0:
+            return i
+    return None
+
+
+def cleared(ground, rows, width):
+    """(rows, leads, lead, sign) of rows of integers, cleared at the first `width` columns.
+
+    The rows with leads come first; at each of these columns stands the same lead, and 0 in the other rows.
+    The sign is -1 if rows were exchanged an odd number of times.
+    """
+    rows = [list(row) for row in rows]
+    leads = []
+    lead, sign = 1, 1
+    for column in range(width):
+        top = len(leads)
+        found = find_lead(rows, top, column)
+        if found is None:
+            continue
+        if found != top:
+            rows[top], rows[found] = rows[found], rows[top]
+            sign = -sign
+        upper = rows[top]
+        rows = [row if i == top else lowered(ground, row, upper, column, lead) for i, row in enumerate(rows)]
+        lead = upper[column]
+        leads.append(column)
+    return (rows, tuple(leads), lead, sign)
+
+
+def cleared_table(ground, table, width):
+    """The same as `cleared`, for rows of numbers of the ground."""
+    return cleared(ground, [whole_row(ground, row)[0] for row in table], width)
+
+
+def numbers_over(ground, row, bottom):
+    """The numbers of the ground that integers, divided by the bottom, stand for."""
+    return tuple([quotient(ground, number, bottom) for number in row])
+
+
+def undone_rows(ground, table):
+    """The table whose products with the table are the unit table; None if there is none."""
+    size = len(table)
+    rows, leads, lead, _ = cleared_table(ground, beside(table, unit_rows(ground, size)), size)
+    if len(leads) < size:
+        return None
+    return tuple([numbers_over(ground, row[size:], lead) for row in rows])
