@@ -27,6 +27,29 @@ FUNCTIONS = {
         poly_divided(ground,one,other) value_at(ground,poly,number) shifted(ground,poly,number) derived(ground,poly)
         monic_of(ground,poly) common_answer(ground,one,other) mix_answer(ground,one,other,wish)
         join_answer(ground,pairs) square_answer(ground,poly) resultant_answer(ground,one,other)""",
+    "zeroorone.letter.modparts": """power_rest(ground,one,many,poly) turned_rest(ground,poly,many)
+        same_powers(ground,poly) parts(ground,poly) parts_answer(ground,poly) unsplit_answer(ground,poly)
+        is_unsplit(ground,poly) roots_in(ground,poly) unsplit_number(ground,many) first_unsplit(ground,many)""",
+    "zeroorone.letter.lifted": """whole_of(poly) size_bound(whole) fitting_prime(poly)
+        lifted(whole,prime,parts,many) fraction_parts(poly) fraction_parts_answer(poly)
+        fraction_unsplit_answer(poly) fraction_roots(poly)""",
+    "zeroorone.letter.chains": """roots_answer(poly,low,high) alone_answer(poly,low,high)
+        sign_answer(one,other,low,high) root_order_answer(one,low,high,other,start,stop) root_stretches(poly)""",
+    "zeroorone.many.terms": """is_form(ground,size,value) degree(ground,size,form) form_sum(ground,size,one,other)
+        form_less(ground,size,one,other) form_product(ground,size,one,other) form_power(ground,size,form,many)
+        head(ground,size,form,order) head_number(ground,size,form,order) monic_form(ground,size,form,order)
+        value_at(ground,size,form,vector) put_in(ground,size,form,forms) in_letter(ground,size,poly,index)
+        poly_of(ground,size,form,index) divided(ground,size,form,forms,order)
+        is_division(ground,size,form,forms,order,value) crossed(ground,size,one,other,order)""",
+    "zeroorone.many.bases": """reduced_basis(ground,size,order,forms) basis_answer(ground,size,order,forms)
+        heads(ground,size,order,forms) rest(ground,size,order,forms,form) rest_multiples(ground,size,order,forms,form)
+        is_basis(ground,size,order,value) is_reduced(ground,size,order,value)""",
+    "zeroorone.many.within": """within_answer(ground,size,form,forms) lots_answer(ground,size,forms,others)
+        taken_out_answer(ground,size,forms,many) meet_answer(ground,size,forms,others)
+        quotient_answer(ground,size,forms,form) free_answer(ground,size,forms)""",
+    "zeroorone.points.stairs": """finite_answer(ground,size,forms) standing(ground,size,forms)
+        table_of(ground,size,forms,form) tables_answer(ground,size,forms) least_poly_answer(ground,size,forms,form)
+        thinned(size,forms) telling_mix(size,forms)""",
 }
 CLASSES = {
     "zeroorone.errors": """PaperError InvalidGround InvalidPoly InvalidForm InvalidTable InvalidName InvalidClaim
@@ -39,6 +62,8 @@ CONSTANTS = {
     "zeroorone.tables.whole": {"MAX_WHOLE": 6},
     "zeroorone.tables.atleast": {"MOST_WISHES": 10, "MOST_LETTERS": 6, "MOST_TRIED": 6},
     "zeroorone.letter.rests": {"MAX_DEGREE": 12, "MOST_PAIRS": 4},
+    "zeroorone.many.terms": {"MAX_FORM_DEGREE": 12, "MAX_FORMS": 6, "MAX_MADE_DEGREE": 60},
+    "zeroorone.many.bases": {"MAX_JUDGED": 12},
 }
 
 

@@ -8,11 +8,11 @@ from pathlib import Path
 
 ROOT = Path(__file__).resolve().parent.parent
 PACKAGE = ROOT / "zeroorone"
-LIBRARY = {"math": {"gcd", "lcm", "isqrt", "comb", "perm", "factorial"},
+LIBRARY = {"heapq": {"heappush", "heappop", "heapify"}, "math": {"gcd", "lcm", "isqrt", "comb", "perm", "factorial"},
            "itertools": {"combinations", "permutations", "product"}}
 NODES = """Module FunctionDef ClassDef Return Assign AugAssign For While If Raise Expr Pass Break Continue ImportFrom
     alias arguments arg BoolOp And Or BinOp Add Sub Mult FloorDiv Mod Pow UnaryOp USub Not IfExp Dict Set ListComp
-    SetComp DictComp Compare Eq NotEq Lt LtE Gt GtE Is IsNot In NotIn Call keyword Constant Attribute Subscript Slice
+    SetComp DictComp Delete Del BitOr BitAnd LShift RShift Compare Eq NotEq Lt LtE Gt GtE Is IsNot In NotIn Call keyword Constant Attribute Subscript Slice
     Name List Tuple Lambda Load Store comprehension""".split()
 BUILTINS = set("""len range enumerate zip min max sum abs sorted reversed int str bool list tuple dict set isinstance
     ord repr any all divmod Exception ValueError TypeError KeyError IndexError LookupError ZeroDivisionError
@@ -193,9 +193,12 @@ class Language(unittest.TestCase):
                     self.assertTrue(isinstance(right, ast.Constant) and right.value in (None, True, False), place)
 
     def test_calls(self):
+        own = {method.name for _, node, _ in self.each(ast.ClassDef) for method in node.body
+               if isinstance(method, ast.FunctionDef)}
+        self.assertFalse(own & METHODS)
         for place, node, path in self.each(ast.Call):
             if isinstance(node.func, ast.Attribute):
-                self.assertIn(node.func.attr, METHODS, place)
+                self.assertIn(node.func.attr, METHODS | own, place)
                 self.assertEqual(node.keywords, [], place)
             else:
                 self.assertIsInstance(node.func, ast.Name, place)
@@ -204,7 +207,7 @@ class Language(unittest.TestCase):
                 allowed = {"sorted": {"key", "reverse"}, "min": {"key", "default"}, "max": {"key", "default"}}
                 self.assertLessEqual({word.arg for word in node.keywords}, allowed.get(name, set()), place)
             if name in {"any", "all", "sum", "min", "max"} and len(node.args) == 1:
-                self.assertIsInstance(node.args[0], (ast.ListComp, ast.Call, ast.Name), place)
+                self.assertIsInstance(node.args[0], (ast.ListComp, ast.Call, ast.Name, ast.Subscript), place)
 
     def test_what_is_iterated_at_once(self):
         for path, tree in trees():

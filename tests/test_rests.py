@@ -5,6 +5,7 @@ from itertools import product
 
 from helping import BIG, GROUND, HALF, LESS, ODD, ONE, TWO, ZERO, Case, between, is_integer, is_ground, is_number
 from helping import is_poly, number_rule, random_number, read, told
+from polys import any_poly, are_polys, is_monic, made, plus, poly_rule, random_poly, slope, times, value
 
 from zeroorone import errors
 from zeroorone.letter import rests
@@ -13,64 +14,6 @@ from zeroorone.letter.rests import poly_power, poly_product, poly_scaled, poly_s
 from zeroorone.letter.rests import square_answer, value_at
 
 GROUNDS = (0, 2, 3, 5, 13, 9973)
-
-
-def made(ground, values):
-    """The poly with these reckoned numbers."""
-    numbers = [told(ground, value) for value in values]
-    while numbers and numbers[-1] == told(ground, 0):
-        numbers.pop()
-    return tuple(numbers)
-
-
-def plus(ground, one, other, sign=1):
-    many = max(len(one), len(other))
-    rows = [[read(ground, number) for number in poly] + [0] * (many - len(poly)) for poly in (one, other)]
-    return made(ground, [x + sign * y for x, y in zip(*rows)])
-
-
-def times(ground, *polys):
-    result = made(ground, [1])
-    for poly in polys:
-        values = [0] * (len(result) + len(poly))
-        for i, x in enumerate(result):
-            for j, y in enumerate(poly):
-                values[i + j] += read(ground, x) * read(ground, y)
-        result = made(ground, values)
-    return result
-
-
-def slope(ground, poly):
-    return made(ground, [k * read(ground, number) for k, number in enumerate(poly)][1:])
-
-
-def value(ground, poly, number):
-    return told(ground, sum(read(ground, part) * read(ground, number) ** k for k, part in enumerate(poly)))
-
-
-def random_poly(source, ground, degree, size=4):
-    if degree < 0:
-        return ()
-    while True:
-        poly = tuple(random_number(source, ground, size) for _ in range(degree + 1))
-        if poly[-1] != told(ground, 0):
-            return poly
-
-
-def any_poly(source, ground, most=5, least=-1):
-    return random_poly(source, ground, source.randint(least, most))
-
-
-def poly_rule(ground):
-    return (errors.InvalidPoly, None, lambda value: is_poly(ground, value))
-
-
-def are_polys(ground, polys):
-    return isinstance(polys, tuple) and all(is_poly(ground, poly, None, None) for poly in polys)
-
-
-def is_monic(ground, poly):
-    return poly != () and poly[-1] == told(ground, 1)
 
 
 def judge_common(case, claim, paper):

@@ -2,9 +2,9 @@
 from math import gcd
 
 from zeroorone.base.plain import SIXTY_DIGITS, bezout, check_between, check_ground, check_integer, check_number
-from zeroorone.base.plain import ground_fits, is_below, is_zero, minus, number_fits, number_of, over, plus, power
-from zeroorone.base.plain import quotient, sign_of_difference, times
-from zeroorone.errors import InvalidGround, InvalidOperation
+from zeroorone.base.plain import check_prime_ground, ground_fits, is_below, is_zero, minus, number_fits, number_of
+from zeroorone.base.plain import over, plus, power, quotient, sign_of_difference, times
+from zeroorone.errors import InvalidOperation
 
 MAX_GROUND = 9999
 MAX_DIGITS = 60
@@ -99,8 +99,7 @@ def rounded(one):
 
 def read_at(prime, one):
     """The fraction, read as a number of the prime."""
-    if not ground_fits(prime) or prime == 0:
-        raise InvalidGround(prime)
+    check_prime_ground(prime)
     check_number(0, one)
     if one[1] % prime == 0:
         raise InvalidOperation("the prime divides the bottom")

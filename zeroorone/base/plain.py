@@ -67,6 +67,12 @@ def check_ground(ground):
         raise InvalidGround(ground)
 
 
+def check_prime_ground(ground):
+    """Refuse what is no ground other than 0."""
+    if not ground_fits(ground) or ground == 0:
+        raise InvalidGround(ground)
+
+
 def check_number(ground, number):
     """Refuse what is no number of the ground with at most sixty digits."""
     if not number_fits(ground, number, SIXTY_DIGITS):

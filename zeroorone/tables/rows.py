@@ -1,4 +1,6 @@
 """Tables of any size without checks: rows are cleared column by column, in integers alone."""
+from math import gcd
+
 from zeroorone.base.plain import integer_dot, number_of, quotient, undone_modulo, vector_fits, whole_row
 
 
@@ -107,3 +109,61 @@ def undone_rows(ground, table):
     if len(leads) < size:
         return None
     return tuple([numbers_over(ground, row[size:], lead) for row in rows])
+
+
+def kernel_rows(ground, table):
+    """For each column without a lead the vector that is 1 there and 0 at the others, and that the table leads to 0."""
+    width = len(table[0])
+    rows, leads, lead, _ = cleared_table(ground, table, width)
+    vectors = []
+    for free in range(width):
+        if free not in leads:
+            vector = [number_of(ground, 0)] * width
+            vector[free] = number_of(ground, 1)
+            for row, column in zip(rows, leads):
+                vector[column] = quotient(ground, -row[free], lead)
+            vectors.append(tuple(vector))
+    return tuple(vectors)
+
+
+def rank_paper(ground, table):
+    """The paper for the rank of the table; it tells as many rows as the rank."""
+    columns = cleared_table(ground, table, len(table[0]))[1]
+    if len(columns) == 0:
+        return ((), (), (), tuple([() for _ in table]))
+    rows = cleared_table(ground, turned(table), len(table))[1]
+    part = tuple([tuple([table[i][j] for j in columns]) for i in rows])
+    back = undone_rows(ground, part)
+    sums = product_rows(ground, [[row[j] for j in columns] for row in table], back)
+    return (rows, columns, back, sums)
+
+
+def shortened(ground, row):
+    """The integers, divided by what divides all of them; rests modulo a prime."""
+    if ground != 0:
+        return [number % ground for number in row]
+    common = 0
+    for number in row:
+        common = gcd(common, number)
+        if common == 1:
+            return row
+    return [number // common for number in row] if common > 1 else row
+
+
+def put_to(ground, rungs, vector, bottom, width):
+    """Put a vector of `width` integers over a bottom to others, the rungs, if it is no sum of multiples of them.
+
+    Then None is returned. Otherwise it is a tuple of integers, one for each vector put to them so far, and one other
+    than 0 for this one: so many times the vectors add up to 0.
+    """
+    row = list(vector) + [0] * (width + 1)
+    row[width + len(rungs)] = bottom
+    for lead, rung in rungs:
+        low, upper = row[lead], rung[lead]
+        if low != 0:
+            row = shortened(ground, [upper * number - low * over for number, over in zip(row, rung)])
+    for column in range(width):
+        if row[column] != 0:
+            rungs.append((column, row))
+            return None
+    return tuple(row[width:width + len(rungs) + 1])

@@ -1,8 +1,8 @@
 """Tables over a ground: reduced rows, determinants, equations and ranks (stage 3)."""
 from zeroorone.base.plain import check_between, check_ground, number_of, quotient, vector_fits, whole_row
 from zeroorone.errors import InvalidOperation, InvalidTable, Refused
-from zeroorone.tables.rows import beside, cleared, cleared_table, numbers_over, product_rows, table_fits, turned
-from zeroorone.tables.rows import undone_rows, unit_rows
+from zeroorone.tables.rows import beside, cleared, cleared_table, kernel_rows, numbers_over, product_rows, rank_paper
+from zeroorone.tables.rows import table_fits, turned, undone_rows, unit_rows
 
 MAX_SIDE = 12
 TWENTY_DIGITS = 10 ** 20
@@ -57,17 +57,7 @@ def rank(ground, table):
 def kernel(ground, table):
     """The vectors, one for each column without a lead, of which all that the table leads to 0 is a sum."""
     check_table(ground, table)
-    width = len(table[0])
-    rows, found, lead, _ = cleared_table(ground, table, width)
-    vectors = []
-    for free in range(width):
-        if free not in found:
-            vector = [number_of(ground, 0)] * width
-            vector[free] = number_of(ground, 1)
-            for row, column in zip(rows, found):
-                vector[column] = quotient(ground, -row[free], lead)
-            vectors.append(tuple(vector))
-    return tuple(vectors)
+    return kernel_rows(ground, table)
 
 
 def check_square(ground, table):
@@ -123,12 +113,6 @@ def solve_answer(ground, table, vector):
 
 def rank_answer(ground, table):
     """The claim about the rank of the table, and a paper."""
-    columns = leads(ground, table)
-    rows = cleared_table(ground, turned(table), len(table))[1]
-    claim = ("rank", ground, table, len(columns))
-    if len(columns) == 0:
-        return (claim, ((), (), (), tuple([() for _ in table])))
-    part = tuple([tuple([table[i][j] for j in columns]) for i in rows])
-    back = undone_rows(ground, part)
-    sums = product_rows(ground, [[row[j] for j in columns] for row in table], back)
-    return (claim, (rows, columns, back, sums))
+    check_table(ground, table)
+    paper = rank_paper(ground, table)
+    return (("rank", ground, table, len(paper[0])), paper)

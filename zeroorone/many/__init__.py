@@ -1,0 +1,1 @@
+"""Forms: polynomials in some letters."""

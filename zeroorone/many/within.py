@@ -1,0 +1,142 @@
+"""What is within forms: lots compared, letters taken out, meets, quotients, free letters (stage 12)."""
+from itertools import combinations
+
+from zeroorone.base.plain import check_between, opposite
+from zeroorone.errors import Refused
+from zeroorone.many.bases import Basis
+from zeroorone.many.packed import Frame, all_ordered, dividers_of, divided_by, head_of, ordered, rest_by
+from zeroorone.many.terms import check_form, check_forms, check_size
+
+
+def outside_paper(basis, inner):
+    """The paper that an inner form, which leaves a rest, is outside."""
+    frame, rows = basis.frame, basis.rows
+    quotients, left = divided_by(frame, inner, rows)
+    return ("deg", frame.all_closed(rows), basis.paper(frame, rows), frame.all_closed(quotients), frame.closed(left))
+
+
+def is_outside(basis, inner):
+    """Whether an inner form leaves a rest by the basis."""
+    return len(rest_by(basis.frame, inner, dividers_of(basis.frame, basis.rows))[0]) > 0
+
+
+def within_answer(ground, size, form, forms):
+    """The claim that a form is within others, or outside, and a paper."""
+    check_size(ground, size)
+    check_form(ground, size, form)
+    check_forms(ground, size, forms)
+    basis = Basis(ground, size, forms)
+    inner = basis.frame.opened(form)
+    question = (ground, size, ordered(form), all_ordered(forms))
+    if is_outside(basis, inner):
+        return (("outside",) + question, outside_paper(basis, inner))
+    return (("within",) + question, basis.multiples(inner))
+
+
+def first_outside(basis, inners):
+    """The index of the first inner form outside; None if all are within."""
+    for index, inner in enumerate(inners):
+        if is_outside(basis, inner):
+            return index
+    return None
+
+
+def lots_answer(ground, size, forms, others):
+    """The claim that the same forms are within two tuples of forms, or not, and a paper."""
+    check_size(ground, size)
+    check_forms(ground, size, forms)
+    check_forms(ground, size, others)
+    bases = (Basis(ground, size, forms), Basis(ground, size, others))
+    question = (ground, size, all_ordered(forms), all_ordered(others))
+    for side in range(2):
+        basis, gens = bases[1 - side], bases[side].gens
+        place = first_outside(basis, gens)
+        if place is not None:
+            return (("unlike lots",) + question, (side, place, outside_paper(basis, gens[place])))
+    there = tuple([bases[1].multiples(gen) for gen in bases[0].gens])
+    back = tuple([bases[0].multiples(gen) for gen in bases[1].gens])
+    return (("same lot",) + question, (there, back))
+
+
+def without_letters(forms, many):
+    """The forms in no key of which one of the first so many letters stands."""
+    return tuple([form for form in forms if all([sum(key[:many]) == 0 for key in form])])
+
+
+def taken_out(ground, size, forms, many):
+    """(found, paper) of the claim about what is left if the first so many letters are taken out."""
+    basis = Basis(ground, size, forms)
+    frame, rows = basis.by("lex")
+    closed = frame.all_closed(rows)
+    return (without_letters(closed, many), (closed, basis.paper(frame, rows)))
+
+
+def taken_out_answer(ground, size, forms, many):
+    """The claim about the forms within that do not have the first so many letters, and a paper."""
+    check_size(ground, size)
+    check_forms(ground, size, forms)
+    check_between(many, 0, size)
+    found, paper = taken_out(ground, size, forms, many)
+    return (("taken out", ground, size, all_ordered(forms), many, found), paper)
+
+
+def mixed_forms(ground, forms, others):
+    """The first forms times a further letter ahead of all, and the others times 1 less this letter."""
+    raised = [{(1,) + key: form[key] for key in form} for form in forms]
+    for other in others:
+        mixed = {(0,) + key: number for key, number in other.items()}
+        mixed.update({(1,) + key: opposite(ground, number) for key, number in other.items()})
+        raised.append(mixed)
+    return tuple(raised)
+
+
+def meet(ground, size, forms, others):
+    """(found, paper) of the claim about the forms within both."""
+    later, paper = taken_out(ground, size + 1, mixed_forms(ground, forms, others), 1)
+    return (tuple([{key[1:]: form[key] for key in form} for form in later]), paper)
+
+
+def meet_answer(ground, size, forms, others):
+    """The claim about the forms within two tuples of forms, and a paper."""
+    check_size(ground, size)
+    check_forms(ground, size, forms)
+    check_forms(ground, size, others)
+    found, paper = meet(ground, size, forms, others)
+    return (("meet", ground, size, all_ordered(forms), all_ordered(others), found), paper)
+
+
+def quotient_answer(ground, size, forms, form):
+    """The claim about the forms that, times a form, are within others, and a paper."""
+    check_size(ground, size)
+    check_forms(ground, size, forms)
+    check_form(ground, size, form)
+    if not form:
+        raise Refused(("zero",))
+    rows, paper = meet(ground, size, forms, (form,))
+    frame = Frame(ground, size, "lex")
+    divisor = frame.opened(form)
+    divided = tuple([frame.closed(divided_by(frame, row, [divisor])[0][0]) for row in frame.all_opened(rows)])
+    basis = Basis(ground, size, divided)
+    frame, inners = basis.by("lex")
+    claim = ("quotient", ground, size, all_ordered(forms), ordered(form), frame.all_closed(inners))
+    return (claim, (rows, paper, divided, basis.paper(frame, inners)))
+
+
+def most_free(size, keys):
+    """The greatest number of letters for which none of the keys has no letters but these, -1 if there are none."""
+    greatest = -1
+    for many in range(size + 1):
+        for letters in combinations(range(size), many):
+            if not any([sum(key) == sum([key[letter] for letter in letters]) for key in keys]):
+                greatest = many
+    return greatest
+
+
+def free_answer(ground, size, forms):
+    """The claim about the greatest number of free letters, and a paper."""
+    check_size(ground, size)
+    check_forms(ground, size, forms)
+    basis = Basis(ground, size, forms)
+    frame, rows = basis.frame, basis.rows
+    many = most_free(size, [frame.unpacked(head_of(row)) for row in rows])
+    return (("free", ground, size, all_ordered(forms), many), (frame.all_closed(rows), basis.paper(frame, rows)))

@@ -1,0 +1,1 @@
+"""What is known of the points at which forms are 0."""

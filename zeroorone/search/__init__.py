@@ -1,0 +1,1 @@
+"""Searches for bases."""
