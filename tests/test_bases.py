@@ -9,6 +9,8 @@ from helping import BIG, GROUND, HALF, LESS, ODD, ONE, TWO, Case, told
 from zeroorone import errors
 from zeroorone.many import bases
 from zeroorone.many.bases import basis_answer, heads, is_basis, is_reduced, reduced_basis, rest, rest_multiples
+from zeroorone.many.packed import Frame
+from zeroorone.search.building import built
 
 GROUNDS = (0, 2, 5, 9973)
 ORDERS = ("lex", "deg")
@@ -112,6 +114,7 @@ class Bases(Case):
         self.assertEqual(reduced_basis(ground, size, order, forms), rows)
         self.assertEqual(heads(ground, size, order, forms), tuple(head(order, row) for row in rows))
         self.assertTrue(is_basis_by_pairs(ground, order, rows))
+        self.assertTrue(all(rest(ground, size, order, forms, form) == {} for form in forms))
         if len(rows) <= 12 and all(form_rule(ground, size)[2](row) for row in rows):
             self.assertIs(is_basis(ground, size, order, rows), True)
             self.assertIs(is_reduced(ground, size, order, rows), True)
@@ -180,6 +183,20 @@ class Bases(Case):
         both = bases.LEARNED_BY[0] * bases.LEARNED_BY[1]
         self.check(0, 2, "lex", ({(2, 0): ONE, (0, 1): (1, both)}, {(1, 1): ONE, (0, 1): (both, 1)}))
         self.check(0, 3, "lex", ({(1, 1, 0): ONE, (0, 0, 1): (both, 1)}, {(1, 0, 1): ONE, (0, 1, 0): ONE}))
+
+    def test_rows_that_a_prime_tells(self):
+        lex = Frame(0, 3, "lex")
+        deg = Frame(0, 3, "deg")
+        source = random.Random(117)
+        for _ in range(5):
+            forms = tuple(random_form(source, 0, 3, 2, 3) for _ in range(2))
+            rows = [row[0] for row in built(deg, deg.all_opened(forms)).reduced()]
+            wanted = [row[0] for row in built(lex, lex.all_opened(forms)).reduced()]
+            self.assertEqual(bases.learned_rows(deg, rows, lex, bases.LEARNED_BY[0]), wanted)
+        prime = bases.LEARNED_BY[0]
+        forms = ({(1, 1, 0): ONE, (0, 0, 1): (prime, 1)}, {(1, 0, 1): ONE, (0, 1, 0): ONE})
+        rows = [row[0] for row in built(deg, deg.all_opened(forms)).reduced()]
+        self.assertIsNone(bases.learned_rows(deg, rows, lex, prime))
 
     def test_long_integers(self):
         source = random.Random(113)

@@ -264,6 +264,12 @@ class Signs(Case):
             self.check(SQUARE_TWO, g, ZERO, (5, 1), wanted)
             self.check(times(0, SQUARE_TWO, SQUARE_TWO), g, ONE, (3, 2), wanted)
 
+    def test_roots_near_the_bound_of_all(self):
+        self.check(with_roots(3), with_roots(5), None, None, -1)
+        self.check(with_roots(-3), with_roots(-5), None, None, 1)
+        self.check(with_roots(-3), with_roots(-5), None, ONE, 1)
+        self.check(with_roots(7, 1), with_roots(8, 6), TWO, None, -1)
+
     def test_a_root_beside_a_root(self):
         # The other poly has roots on both sides of the end of the stretch.
         near = Fraction(1, 10 ** 12)
@@ -307,6 +313,11 @@ class Orders(Case):
         self.check(SQUARE_TWO, ONE, (3, 2), SQUARE_THREE, (3, 2), TWO, -1)
         self.check(with_roots(1), ZERO, ONE, with_roots(1, 2), None, ONE, 0)
         self.check(with_roots(1), ZERO, ONE, with_roots(1, 2), ONE, TWO, -1)
+
+    def test_roots_near_the_bound_of_all(self):
+        self.check(with_roots(3), None, None, with_roots(5), None, None, -1)
+        self.check(with_roots(-3), None, None, with_roots(-5), None, None, 1)
+        self.check(with_roots(7), None, None, with_roots(6, 8), None, (7, 1), 1)
 
     def test_near_roots(self):
         near = Fraction(1, 10 ** 40)

@@ -156,6 +156,9 @@ class Refusals(Case):
         for row, parts in ((whole, ((3, 1), (3, 1))), ((2, 2, 1), ((3, 1), (4, 1))), ((9, 6, 1), ((3, 1), (3, 1))),
                            (whole, ((3, 1),)), (whole, ((3, 1), (4, 1), (0, 1))), (whole, ((0,) * 13 + (1,),))):
             self.refuses(errors.InvalidOperation, lifted, row, 7, parts, 2)
+        # Products that are longer or shorter than the row, and equal to it as far as both go.
+        self.refuses(errors.InvalidOperation, lifted, (3, 1, 1), 7, ((3, 1),), 2)
+        self.refuses(errors.InvalidOperation, lifted, (0, 1, 1), 7, ((0, 1), (3, 1), (5, 1)), 2)
         self.assertEqual(lifted((9, 6, 1), 7, ((2, 6, 1),), 200), ((9, 6, 1),))
 
     def test_errors_that_come_last(self):
@@ -282,6 +285,13 @@ class Parts(Case):
         f = tuple(told(0, Fraction(source.randint(-BIG, BIG), source.randint(1, BIG))) for _ in range(13))
         f = tuple((x[0], x[1]) for x in f)
         self.judge(f)
+
+    def test_a_power_that_is_the_bound(self):
+        # 2 B is 32 here, and the prime 2 fits.
+        f = made(0, [2, 1, 1])
+        claim, paper = fraction_unsplit_answer(f)
+        self.assertEqual((claim[0], paper[:2]), ("unsplit", (2, 6)))
+        judge_unsplit(self, f, paper)
 
     def test_low_degrees(self):
         self.assertEqual(fraction_parts_answer((HALF,)), (("parts", 0, (HALF,), ()), ()))

@@ -49,9 +49,8 @@ class Frame:
         self.order = order
         self.width = width
         self.mask = (1 << width) - 1
-        # One bit ahead of each exponent, and of their sum, stays free, so that differences can be told.
-        fields = size + 1 if order == "deg" else size
-        self.guards = sum([1 << (width * (field + 1) - 1) for field in range(fields)])
+        # One bit ahead of each exponent stays free, so that differences can be told.
+        self.guards = sum([1 << (width * (field + 1) - 1) for field in range(size)])
 
     def packed(self, key):
         """The integer for a key."""

@@ -125,7 +125,7 @@ def monic_form(ground, size, form, order):
 def put_inside(frame, form, inners):
     """The inner form that comes with inner forms put in for all letters of a form, one letter behind the other."""
     if not inners:
-        return number_inner(frame, form.get((), number_of(frame.ground, 0)))
+        return number_inner(frame, form[()])
     rows = {}
     for key in form:
         rows.setdefault(key[0], {})[key[1:]] = form[key]

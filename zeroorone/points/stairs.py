@@ -56,7 +56,7 @@ def table_rows(frame, rows, keys, inner):
     letters = letters_of(frame)
     rests = {}
     for key in keys:
-        lower = [letter for letter in letters if key - letter in rests and frame.leads(letter, key)]
+        lower = [letter for letter in letters if frame.leads(letter, key)]
         made = raised(rests[key - lower[0]], lower[0]) if lower else inner
         rests[key] = rest_by(frame, made, dividers)
     return tuple([numbers_on(frame, keys, rests[key]) for key in keys])

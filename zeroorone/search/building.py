@@ -2,8 +2,7 @@
 from heapq import heappop, heappush
 from math import gcd
 
-from zeroorone.base.plain import undone_modulo
-from zeroorone.many.packed import common_divisor, common_key, division_steps, gathered, monic, quotients_of, scaled
+from zeroorone.many.packed import common_key, dividers_of, division_steps, gathered, monic, quotients_of, scaled
 from zeroorone.many.packed import sum_of, sum_of_products, unit
 
 
@@ -25,18 +24,9 @@ class Build:
 
     def put(self, gen, terms, rest, sugar):
         """Put what a division left to the rows, and its pairs with the earlier ones to the queue."""
-        numbers, bottom = gathered(self.frame, rest)
-        head = max(numbers)
+        _, head, numbers, factor = dividers_of(self.frame, [gathered(self.frame, rest)])[0]
         index = len(self.rows)
-        if self.frame.ground != 0:
-            common = numbers[head]
-            back = undone_modulo(common, self.frame.ground)
-            numbers = {key: number * back % self.frame.ground for key, number in numbers.items()}
-        else:
-            common = common_divisor(list(numbers.values()), 0)
-            common = -common if numbers[head] < 0 else common
-            numbers = {key: number // common for key, number in numbers.items()}
-        self.origins.append((gen, terms, bottom, common))
+        self.origins.append((gen, terms, factor[1], factor[0]))
         self.excesses.append(sugar - sum(self.frame.unpacked(head)))
         pairs = [(row, common_key(self.frame, row[1], head)) for row in self.rows]
         for row, common in pairs:
