@@ -303,9 +303,9 @@ class Meets(Case):
     def test_papers(self):
         source = random.Random(126)
         for ground in GROUNDS:
-            for size in (1, 2):
+            for size in (1, 2, 2, 3):
                 for _ in range(3):
-                    forms, others = random_forms(source, ground, size), random_forms(source, ground, size)
+                    forms, others = random_forms(source, ground, size, 2, 2), random_forms(source, ground, size, 2, 2)
                     found = self.check(ground, size, forms, others)
                     for form in found:
                         for gens in (forms, others):
@@ -348,9 +348,9 @@ class Quotients(Case):
     def test_papers(self):
         source = random.Random(128)
         for ground in GROUNDS:
-            for size in (1, 2):
+            for size in (1, 2, 3):
                 for _ in range(3):
-                    forms = random_forms(source, ground, size)
+                    forms = random_forms(source, ground, size, 2, 2)
                     form = random_form(source, ground, size, 2, 2)
                     found = self.check(ground, size, forms, form)
                     basis = reduced_basis(ground, size, "deg", forms)

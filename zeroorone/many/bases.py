@@ -16,10 +16,10 @@ LEARNED_BY = (2147483647, 2147483629)
 
 
 class Basis:
-    """What is within some forms: the rows of the reduced basis by "deg", with multiples of the forms for each."""
+    """What is within some forms: the rows of the reduced basis in an order, with multiples of the forms for each."""
 
-    def __init__(self, ground, size, forms):
-        self.frame = Frame(ground, size, "deg")
+    def __init__(self, ground, size, forms, order="deg"):
+        self.frame = Frame(ground, size, order)
         self.gens = self.frame.all_opened(forms)
         build = built(self.frame, self.gens)
         final = build.reduced()
@@ -34,7 +34,7 @@ class Basis:
         ]
 
     def by(self, order):
-        """The frame and the rows of the reduced basis in an order."""
+        """The frame and the rows of the reduced basis in an order, if this one is by "deg"."""
         if order == "deg":
             return (self.frame, self.rows)
         return lex_rows(self.frame, self.rows)

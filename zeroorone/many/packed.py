@@ -7,7 +7,8 @@ and the integers are rests. Packed keys are compared as the order compares keys,
 from heapq import heapify, heappop, heappush
 from math import gcd
 
-from zeroorone.base.plain import is_int, is_zero, number_fits, number_of, quotient, undone_modulo, whole_row
+from zeroorone.base.plain import common_multiple, is_int, is_zero, number_fits, number_of, quotient, undone_modulo
+from zeroorone.base.plain import whole_row
 
 ORDERS = ("lex", "deg")
 # Far more bits than the exponents need that are met on the way.
@@ -41,7 +42,10 @@ def all_ordered(forms):
 
 
 class Frame:
-    """A ground, a number of letters and an order, and how keys are packed for them."""
+    """A ground, a number of letters and an order, and how keys are packed for them.
+
+    The order "first" stands beside the two others here: it compares the first exponent, and then the others by "deg".
+    """
 
     def __init__(self, ground, size, order, width=WIDTH):
         self.ground = ground
@@ -55,6 +59,8 @@ class Frame:
     def packed(self, key):
         """The integer for a key."""
         number = sum(key) if self.order == "deg" else 0
+        if self.order == "first":
+            number = (key[0] << self.width) + sum(key[1:])
         for exponent in key:
             number = (number << self.width) + exponent
         return number
@@ -145,12 +151,7 @@ def difference_of(frame, one, other):
 
 def product_of(frame, one, other):
     """The product of two inner forms."""
-    made = {}
-    for lower, number in one[0].items():
-        for key, further in other[0].items():
-            place = lower + key
-            made[place] = made.get(place, 0) + number * further
-    return settled(frame, made, one[1] * other[1])
+    return sum_of_products(frame, [one], [other])
 
 
 def power_of(frame, inner, many):
@@ -174,11 +175,17 @@ def raised(inner, key):
 
 def sum_of_products(frame, ones, others):
     """The sum of the products of the inner forms of two equally long lists."""
-    total = nothing()
-    for one, other in zip(ones, others):
-        if one[0] and other[0]:
-            total = sum_of(frame, total, product_of(frame, one, other))
-    return total
+    pairs = [(one, other) for one, other in zip(ones, others) if one[0] and other[0]]
+    bottom = common_multiple([one[1] * other[1] for one, other in pairs])
+    made = {}
+    for one, other in pairs:
+        factor = bottom // (one[1] * other[1])
+        for lower, number in one[0].items():
+            times = number * factor
+            for key, further in other[0].items():
+                place = lower + key
+                made[place] = made.get(place, 0) + times * further
+    return settled(frame, made, bottom)
 
 
 def head_of(inner):

@@ -3,8 +3,9 @@ from itertools import combinations
 
 from zeroorone.base.plain import check_between, opposite
 from zeroorone.errors import Refused
-from zeroorone.many.bases import Basis
-from zeroorone.many.packed import Frame, all_ordered, dividers_of, divided_by, head_of, ordered, rest_by
+from zeroorone.many.bases import Basis, lex_rows, rows_by
+from zeroorone.many.packed import Frame, all_ordered, difference_of, dividers_of, divided_by, head_of, letters_of
+from zeroorone.many.packed import ordered, raised, rest_by
 from zeroorone.many.terms import check_form, check_forms, check_size
 
 
@@ -63,10 +64,8 @@ def without_letters(forms, many):
     return tuple([form for form in forms if all([sum(key[:many]) == 0 for key in form])])
 
 
-def taken_out(ground, size, forms, many):
+def taken_out(basis, frame, rows, many):
     """(found, paper) of the claim about what is left if the first so many letters are taken out."""
-    basis = Basis(ground, size, forms)
-    frame, rows = basis.by("lex")
     closed = frame.all_closed(rows)
     return (without_letters(closed, many), (closed, basis.paper(frame, rows)))
 
@@ -76,24 +75,57 @@ def taken_out_answer(ground, size, forms, many):
     check_size(ground, size)
     check_forms(ground, size, forms)
     check_between(many, 0, size)
-    found, paper = taken_out(ground, size, forms, many)
+    basis = Basis(ground, size, forms)
+    frame, rows = basis.by("lex")
+    found, paper = taken_out(basis, frame, rows, many)
     return (("taken out", ground, size, all_ordered(forms), many, found), paper)
 
 
 def mixed_forms(ground, forms, others):
     """The first forms times a further letter ahead of all, and the others times 1 less this letter."""
-    raised = [{(1,) + key: form[key] for key in form} for form in forms]
+    made = [{(1,) + key: form[key] for key in form} for form in forms]
     for other in others:
         mixed = {(0,) + key: number for key, number in other.items()}
         mixed.update({(1,) + key: opposite(ground, number) for key, number in other.items()})
-        raised.append(mixed)
-    return tuple(raised)
+        made.append(mixed)
+    return tuple(made)
+
+
+def without_first(forms):
+    """The forms without the first letter, which stands in none of them."""
+    return tuple([{key[1:]: form[key] for key in form} for form in forms])
+
+
+def mixed_rows(basis, forms, others):
+    """The frame by "lex", and the reduced basis in it of mixed forms, of that by "first".
+
+    Its heads are those of what is within both, and the further letter times those of what is within all forms at
+    once. So both are found without this letter; a search among the mixed forms would take far longer.
+    """
+    ground, size = basis.frame.ground, basis.frame.size - 1
+    frame = Frame(ground, size, "deg")
+    met = without_first(without_letters(basis.frame.all_closed(basis.rows), 1))
+    lex, found = lex_rows(frame, frame.all_opened(met))
+    later = Frame(ground, size + 1, "lex")
+    letter = letters_of(later)[0]
+    first, dividers = dividers_of(basis.frame, basis.rows), dividers_of(lex, found)
+    rows = list(found)
+    for row in rows_by(ground, size, "lex", forms + others)[1]:
+        if not any([lex.leads(head_of(lower), head_of(row)) for lower in found]):
+            # By "lex" keys without the first letter are packed into the same integers.
+            mixed = raised(row, letter)
+            left = rest_by(basis.frame, basis.frame.opened(later.closed(mixed)), first)
+            left = rest_by(lex, lex.all_opened(without_first([basis.frame.closed(left)]))[0], dividers)
+            rows.append(difference_of(later, mixed, left))
+    return (later, rows)
 
 
 def meet(ground, size, forms, others):
     """(found, paper) of the claim about the forms within both."""
-    later, paper = taken_out(ground, size + 1, mixed_forms(ground, forms, others), 1)
-    return (tuple([{key[1:]: form[key] for key in form} for form in later]), paper)
+    basis = Basis(ground, size + 1, mixed_forms(ground, forms, others), "first")
+    frame, rows = mixed_rows(basis, forms, others)
+    later, paper = taken_out(basis, frame, rows, 1)
+    return (without_first(later), paper)
 
 
 def meet_answer(ground, size, forms, others):
@@ -116,10 +148,10 @@ def quotient_answer(ground, size, forms, form):
     frame = Frame(ground, size, "lex")
     divisor = frame.opened(form)
     divided = tuple([frame.closed(divided_by(frame, row, [divisor])[0][0]) for row in frame.all_opened(rows)])
-    basis = Basis(ground, size, divided)
-    frame, inners = basis.by("lex")
-    claim = ("quotient", ground, size, all_ordered(forms), ordered(form), frame.all_closed(inners))
-    return (claim, (rows, paper, divided, basis.paper(frame, inners)))
+    # These are a basis by "lex" already, only not reduced.
+    basis = Basis(ground, size, divided, "lex")
+    claim = ("quotient", ground, size, all_ordered(forms), ordered(form), frame.all_closed(basis.rows))
+    return (claim, (rows, paper, divided, basis.paper(frame, basis.rows)))
 
 
 def most_free(size, keys):
