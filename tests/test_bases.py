@@ -9,7 +9,7 @@ from helping import BIG, GROUND, HALF, LESS, ODD, ONE, TWO, Case, told
 from zeroorone import errors
 from zeroorone.many import bases
 from zeroorone.many.bases import basis_answer, heads, is_basis, is_reduced, reduced_basis, rest, rest_multiples
-from zeroorone.many.packed import Frame
+from zeroorone.paper.forms import Frame
 from zeroorone.search.building import built
 
 GROUNDS = (0, 2, 5, 9973)

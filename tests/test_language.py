@@ -12,14 +12,17 @@ LIBRARY = {"heapq": {"heappush", "heappop", "heapify"}, "math": {"gcd", "lcm", "
            "itertools": {"combinations", "permutations", "product"}}
 NODES = """Module FunctionDef ClassDef Return Assign AugAssign For While If Raise Expr Pass Break Continue ImportFrom
     alias arguments arg BoolOp And Or BinOp Add Sub Mult FloorDiv Mod Pow UnaryOp USub Not IfExp Dict Set ListComp
-    SetComp DictComp Delete Del BitOr BitAnd LShift RShift Compare Eq NotEq Lt LtE Gt GtE Is IsNot In NotIn Call keyword Constant Attribute Subscript Slice
-    Name List Tuple Lambda Load Store comprehension""".split()
+    SetComp DictComp Delete Del BitOr BitAnd LShift RShift Compare Eq NotEq Lt LtE Gt GtE Is IsNot In NotIn Call keyword
+    Constant Attribute Subscript Slice Name List Tuple Lambda Load Store Starred JoinedStr FormattedValue Try
+    ExceptHandler comprehension""".split()
 BUILTINS = set("""len range enumerate zip min max sum abs sorted reversed int str bool list tuple dict set isinstance
     ord repr any all divmod Exception ValueError TypeError KeyError IndexError LookupError ZeroDivisionError
     ArithmeticError OverflowError RuntimeError""".split())
 METHODS = set("""append clear copy count endswith extend find get index insert isalnum isalpha isdigit islower isspace
     isupper items join keys ljust lower lstrip partition pop remove replace reverse rfind rjust rpartition rsplit rstrip
     setdefault split splitlines startswith strip update upper values zfill bit_length""".split())
+DOUBLE = {"__init__", "__contains__", "__len__", "__eq__", "__str__"}
+OWN_ERRORS = {"PaperError", "InvalidNumber", "UnknownName", "NothingToUndo", "TooMany", "Refused"}
 CHANGES = set("append clear extend insert pop remove reverse setdefault update".split())
 LAZY = {"zip", "enumerate", "reversed", "range"}
 VIEWS = {"items", "keys", "values"}
@@ -98,11 +101,66 @@ class Language(unittest.TestCase):
                 compile(text, str(path), "exec")
         for place, node, _ in self.each(ast.FunctionDef):
             self.assertLessEqual(node.end_lineno - node.lineno + 1, 40, place)
-            self.assertEqual(node.decorator_list, [], place)
 
     def test_plain_nodes_alone(self):
         for place, node, _ in self.each(ast.AST):
             self.assertIn(type(node).__name__, NODES, place)
+
+    def test_classes(self):
+        plain, decorated, attributes = {}, {}, {}
+        for place, node, path in self.each(ast.ClassDef):
+            names = [method.name for method in node.body if isinstance(method, ast.FunctionDef)]
+            self.assertEqual(len(names), len(set(names)), place)
+            self.assertLessEqual({name for name in names if name.startswith("__")}, DOUBLE, place)
+            stored = {part.attr for part in ast.walk(node)
+                      if isinstance(part, ast.Attribute) and isinstance(part.ctx, ast.Store)}
+            self.assertFalse(stored & set(names), place)
+            attributes[node.name] = stored
+            for method in [one for one in node.body if isinstance(one, ast.FunctionDef)]:
+                kinds = [decorator.id for decorator in method.decorator_list]
+                self.assertIn(kinds, ([], ["property"], ["classmethod"]), place)
+                self.assertEqual(method.args.args[0].arg, "cls" if kinds == ["classmethod"] else "self", place)
+                (decorated if kinds else plain).setdefault(method.name, []).append(node.name)
+                if method.name in DOUBLE - {"__init__"} or kinds == ["property"]:
+                    self.assertIsInstance(method.body[-1], ast.Return, place)
+                    self.assertFalse([part for part in ast.walk(method) if isinstance(part, (ast.Assign, ast.AugAssign))])
+        # Names with decorators are names of nothing else.
+        self.assertFalse(set(decorated) & (set(plain) | METHODS))
+        self.assertFalse(set(decorated) & {name for names in attributes.values() for name in names})
+
+    def test_decorators_and_stars(self):
+        for path, tree in trees():
+            methods = [one for node in tree.body if isinstance(node, ast.ClassDef) for one in node.body]
+            for node in ast.walk(tree):
+                if isinstance(node, ast.FunctionDef):
+                    place = f"{path}:{node.lineno}"
+                    self.assertTrue(node in methods or node.decorator_list == [], place)
+                    self.assertTrue(node in methods or not node.args.kwonlyargs, place)
+                    self.assertIsNone(node.args.vararg or node.args.kwarg, place)
+        for place, node, _ in self.each(ast.Starred):
+            self.assertTrue(isinstance(node.value, ast.Name) and isinstance(node.ctx, ast.Load), place)
+        for place, node, _ in self.each(ast.JoinedStr):
+            inside = [part for value in node.values for part in ast.walk(value)]
+            self.assertFalse([part for part in inside if isinstance(part, ast.JoinedStr)], place)
+
+    def test_handlers_catch_own_errors(self):
+        for place, node, _ in self.each(ast.Try):
+            self.assertFalse(node.finalbody or node.orelse, place)
+            seen = []
+            for handler in node.handlers:
+                told = handler.type.elts if isinstance(handler.type, ast.Tuple) else [handler.type]
+                self.assertLessEqual({name.id for name in told}, OWN_ERRORS, place)
+                seen.append(handler.name)
+            named = [name for name in seen if name is not None]
+            self.assertEqual(len(named), len(set(named)), place)
+
+    def test_the_checker_uses_no_other_module(self):
+        # "It and the files beside it ... use no other module of the package but `zeroorone.errors`."
+        for path, tree in trees():
+            if path.parent == PACKAGE / "paper":
+                for node in ast.walk(tree):
+                    if isinstance(node, ast.ImportFrom) and node.module.startswith("zeroorone"):
+                        self.assertTrue(node.module == "zeroorone.errors" or node.module.startswith("zeroorone.paper."))
 
     def test_module_level(self):
         for path, tree in trees():
@@ -112,7 +170,13 @@ class Language(unittest.TestCase):
                 self.assertTrue(docstring or plain, f"{path}:{node.lineno}")
                 if isinstance(node, ast.Assign):
                     inside = {type(part).__name__ for part in ast.walk(node.value)}
-                    self.assertLessEqual(inside, {"Constant", "Tuple", "Load", "BinOp", "Pow", "UnaryOp", "USub"})
+                    plain = {"Constant", "Tuple", "Load", "BinOp", "Pow", "UnaryOp", "USub", "Dict", "Sub", "Name"}
+                    self.assertLessEqual(inside, plain)
+                    above = [one.name for one in tree.body[:index] if isinstance(one, ast.FunctionDef)]
+                    for part in ast.walk(node.value):
+                        self.assertTrue(not isinstance(part, ast.Name) or part.id in above, f"{path}:{node.lineno}")
+                        if isinstance(part, (ast.Tuple, ast.Dict)) and part is not node.value:
+                            self.assertIsInstance(part, ast.Tuple)
                     self.assertTrue(len(node.targets) == 1 and isinstance(node.targets[0], ast.Name))
             names = top_names(tree) + imported(tree)
             self.assertEqual(len(names), len(set(names)), path)
@@ -160,9 +224,9 @@ class Language(unittest.TestCase):
                 if isinstance(node, (ast.FunctionDef, ast.ClassDef)):
                     bound = node.name
                 if bound is not None:
-                    self.assertFalse(bound != "__init__" and hasattr(builtins, bound), place)
+                    self.assertFalse(bound not in DOUBLE and hasattr(builtins, bound), place)
                     self.assertNotIn(bound, BARRED, place)
-                    self.assertTrue(re.fullmatch(r"_?|_?[A-Za-z][A-Za-z0-9_]*", bound) or bound == "__init__", place)
+                    self.assertTrue(re.fullmatch(r"_?|_?[A-Za-z][A-Za-z0-9_]*", bound) or bound in DOUBLE, place)
                 if isinstance(node, ast.FunctionDef):
                     self.check_loads(node, known, place)
 
@@ -170,6 +234,8 @@ class Language(unittest.TestCase):
         names = [node for node in ast.walk(function) if isinstance(node, ast.Name)]
         local = {node.id for node in names if isinstance(node.ctx, ast.Store)}
         local |= {node.arg for node in ast.walk(function) if isinstance(node, ast.arg)}
+        local |= {node.name for node in ast.walk(function) if isinstance(node, ast.ExceptHandler)}
+        known = known | {"property", "classmethod"}
         for node in names:
             if isinstance(node.ctx, ast.Load):
                 self.assertNotEqual(node.id, "_", place)
@@ -195,7 +261,8 @@ class Language(unittest.TestCase):
     def test_calls(self):
         own = {method.name for _, node, _ in self.each(ast.ClassDef) for method in node.body
                if isinstance(method, ast.FunctionDef)}
-        self.assertFalse(own & METHODS)
+        # L26: methods may be called like those of builtin values.
+        self.assertLessEqual(own & METHODS, {"join"})
         for place, node, path in self.each(ast.Call):
             if isinstance(node.func, ast.Attribute):
                 self.assertIn(node.func.attr, METHODS | own, place)
@@ -221,7 +288,8 @@ class Language(unittest.TestCase):
                     inside = called(node) == "range" and called(up) in {"reversed", "combinations", "permutations"}
                     self.assertTrue(looped or taken or inside, place)
                 if called(node) in {"combinations", "permutations", "product"}:
-                    self.assertTrue(isinstance(up, (ast.For, ast.comprehension)) and up.iter is node, place)
+                    looped = isinstance(up, (ast.For, ast.comprehension)) and up.iter is node
+                    self.assertTrue(looped or called(up) in {"list", "tuple"}, place)
                 if isinstance(node, (ast.Set, ast.SetComp)) or called(node) == "set":
                     self.assertIn(called(up), {"len", "sorted"}, place)
 

@@ -10,6 +10,7 @@ from zeroorone import errors
 from zeroorone.base import numbers, plain
 from zeroorone.base.numbers import added, compared, divided, divisor_answer, fraction, multiplied, raised, read_at
 from zeroorone.base.numbers import rests_answer, rounded, subtracted, whole
+from zeroorone.paper.numbers import LAST_GROUND
 
 GROUNDS = (0, 2, 3, 5, 7, 101, 9973)
 
@@ -25,7 +26,7 @@ class Grounds(Case):
     def test_constants(self):
         self.assertEqual((numbers.MAX_GROUND, numbers.MAX_DIGITS, numbers.MAX_EXPONENT, numbers.MAX_RESTS),
                          (9999, 60, 1000, 6))
-        self.assertEqual((plain.LAST_GROUND, plain.SIXTY_DIGITS), (numbers.MAX_GROUND, 10 ** numbers.MAX_DIGITS))
+        self.assertEqual((LAST_GROUND, plain.SIXTY_DIGITS), (numbers.MAX_GROUND, 10 ** numbers.MAX_DIGITS))
 
     def test_grounds_are_0_and_the_primes_below_10000(self):
         primes = [n for n in range(2, 10000) if all(n % k for k in range(2, floor(n ** 0.5) + 1))]

@@ -1,10 +1,11 @@
 """Grounds, their numbers, common divisors and rests (stage 1)."""
 from math import gcd
 
-from zeroorone.base.plain import SIXTY_DIGITS, bezout, check_between, check_ground, check_integer, check_number
-from zeroorone.base.plain import check_prime_ground, ground_fits, is_below, is_zero, minus, number_fits, number_of
-from zeroorone.base.plain import over, plus, power, quotient, sign_of_difference, times
+from zeroorone.base.plain import SIXTY_DIGITS, check_between, check_ground, check_integer, check_number
+from zeroorone.base.plain import check_prime_ground, minus, over, plus
 from zeroorone.errors import InvalidOperation
+from zeroorone.paper.numbers import bezout, ground_fits, is_below, is_zero, number_fits, number_of, power, quotient
+from zeroorone.paper.numbers import sign_of_difference, times
 
 MAX_GROUND = 9999
 MAX_DIGITS = 60

@@ -1,21 +1,9 @@
-"""Integers and numbers of any length, without checks, and the checks that all stages share."""
-from math import gcd
-
+"""The checks that all stages share, and what numbers need beside them."""
 from zeroorone.errors import InvalidGround, InvalidNumber
+from zeroorone.paper.numbers import ground_fits, is_below, is_int, number_fits, opposite, quotient
 
-LAST_GROUND = 9999
 # Integers that are passed stay below it in size: they have at most sixty digits.
 SIXTY_DIGITS = 10 ** 60
-
-
-def is_int(value):
-    """Whether the value is an integer, of any length."""
-    return isinstance(value, int) and not isinstance(value, bool)
-
-
-def is_below(value, limit):
-    """Whether the value is an integer with a size below the limit, of any length for None."""
-    return is_int(value) and (limit is None or -limit < value < limit)
 
 
 def least_divisor(number):
@@ -28,37 +16,6 @@ def least_divisor(number):
             return divisor
         divisor += 2
     return number
-
-
-def has_no_parts(number):
-    """Whether the integer is a prime."""
-    return number >= 2 and least_divisor(number) == number
-
-
-def ground_fits(value):
-    """Whether the value is a ground."""
-    if not is_int(value) or value < 0 or value > LAST_GROUND:
-        return False
-    return value == 0 or has_no_parts(value)
-
-
-def number_fits(ground, value, limit):
-    """Whether the value is a number of the ground with integers below the limit."""
-    if ground != 0:
-        return is_int(value) and 0 <= value < ground
-    if not isinstance(value, tuple) or len(value) != 2:
-        return False
-    top, bottom = value
-    if not is_below(top, limit) or not is_below(bottom, limit):
-        return False
-    return bottom >= 1 and gcd(top, bottom) == 1
-
-
-def vector_fits(ground, value, many, limit):
-    """Whether the value is a tuple of so many numbers of the ground, below the limit."""
-    if not isinstance(value, tuple) or len(value) != many:
-        return False
-    return all([number_fits(ground, number, limit) for number in value])
 
 
 def check_ground(ground):
@@ -91,84 +48,6 @@ def check_between(number, low, high):
         raise InvalidNumber(number)
 
 
-def bezout(one, other):
-    """(g, u, v): the greatest common divisor, from 0 on, and u one + v other = g."""
-    rest, after = one, other
-    u, later_u = 1, 0
-    v, later_v = 0, 1
-    while after != 0:
-        often = rest // after
-        rest, after = after, rest - often * after
-        u, later_u = later_u, u - often * later_u
-        v, later_v = later_v, v - often * later_v
-    if rest < 0:
-        return (-rest, -u, -v)
-    return (rest, u, v)
-
-
-def undone_modulo(number, modulus):
-    """What times the number leaves 1; both have no common divisor above 1."""
-    return bezout(number % modulus, modulus)[1] % modulus
-
-
-def power_modulo(number, exponent, modulus):
-    """The rest of a power with an exponent from 0 on."""
-    result = 1 % modulus
-    base = number % modulus
-    while exponent > 0:
-        if exponent % 2 == 1:
-            result = result * base % modulus
-        base = base * base % modulus
-        exponent = exponent // 2
-    return result
-
-
-def integer_power(number, exponent):
-    """The power with an exponent from 0 on."""
-    result = 1
-    base = number
-    while exponent > 0:
-        if exponent % 2 == 1:
-            result = result * base
-        exponent = exponent // 2
-        if exponent > 0:
-            base = base * base
-    return result
-
-
-def common_multiple(numbers):
-    """The least common multiple of integers above 0."""
-    result = 1
-    for number in numbers:
-        result = result // gcd(result, number) * number
-    return result
-
-
-def quotient(ground, top, bottom):
-    """The number of the ground that is the quotient of two integers, the second one not 0 in it."""
-    if ground != 0:
-        return top * undone_modulo(bottom, ground) % ground
-    common = gcd(top, bottom)
-    if bottom < 0:
-        common = -common
-    return (top // common, bottom // common)
-
-
-def top_of(ground, number):
-    """The integer that the number is a quotient of."""
-    return number[0] if ground == 0 else number
-
-
-def bottom_of(ground, number):
-    """The integer by which the quotient was made, 1 modulo a prime."""
-    return number[1] if ground == 0 else 1
-
-
-def number_of(ground, integer):
-    """The number of the ground that an integer stands for."""
-    return (integer, 1) if ground == 0 else integer % ground
-
-
 def plus(ground, one, other):
     """The sum of two numbers."""
     if ground != 0:
@@ -176,21 +55,9 @@ def plus(ground, one, other):
     return quotient(0, one[0] * other[1] + other[0] * one[1], one[1] * other[1])
 
 
-def opposite(ground, one):
-    """The number that leads to 0 if it is added."""
-    return (-one[0], one[1]) if ground == 0 else -one % ground
-
-
 def minus(ground, one, other):
     """The difference of two numbers."""
     return plus(ground, one, opposite(ground, other))
-
-
-def times(ground, one, other):
-    """The product of two numbers."""
-    if ground != 0:
-        return one * other % ground
-    return quotient(0, one[0] * other[0], one[1] * other[1])
 
 
 def over(ground, one, other):
@@ -198,41 +65,3 @@ def over(ground, one, other):
     if ground != 0:
         return quotient(ground, one, other)
     return quotient(0, one[0] * other[1], one[1] * other[0])
-
-
-def power(ground, one, exponent):
-    """The power of a number with an exponent from 0 on."""
-    if ground != 0:
-        return power_modulo(one, exponent, ground)
-    return (integer_power(one[0], exponent), integer_power(one[1], exponent))
-
-
-def is_zero(ground, number):
-    """Whether the number is 0."""
-    return top_of(ground, number) == 0
-
-
-def whole_row(ground, numbers):
-    """The integers of a vector times its least common bottom, and this bottom."""
-    bottom = common_multiple([bottom_of(ground, number) for number in numbers])
-    return ([top_of(ground, number) * (bottom // bottom_of(ground, number)) for number in numbers], bottom)
-
-
-def integer_dot(one, other):
-    """The sum of the products of two equally long rows of integers."""
-    return sum([x * y for x, y in zip(one, other)])
-
-
-def dot(ground, one, other):
-    """The sum of the products of two equally long vectors."""
-    numbers, bottom = whole_row(ground, one)
-    others, below = whole_row(ground, other)
-    return quotient(ground, integer_dot(numbers, others), bottom * below)
-
-
-def sign_of_difference(one, other):
-    """-1, 0 or 1 as the first fraction is less than the second one, equal to it, or greater."""
-    left, right = one[0] * other[1], other[0] * one[1]
-    if left == right:
-        return 0
-    return -1 if left < right else 1

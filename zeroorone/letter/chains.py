@@ -5,10 +5,13 @@ degree 0 it is None.
 """
 from math import gcd
 
-from zeroorone.base.plain import SIXTY_DIGITS, number_fits, quotient, sign_of_difference
+from zeroorone.base.plain import SIXTY_DIGITS
 from zeroorone.errors import InvalidNumber, InvalidOperation, InvalidPoly, Refused
-from zeroorone.letter.inner import NOTHING, closed, common_part, degree_of, divided_by, over_poly, settled, slope
+from zeroorone.letter.inner import common_part
 from zeroorone.letter.rests import closed_all, inner_of
+from zeroorone.paper.numbers import is_at_most, number_fits, quotient
+from zeroorone.paper.polys import NOTHING, closed, degree_of, divided_by, over_poly, settled, slope
+from zeroorone.paper.roots import changes_at, changes_between, earlier_of, is_stretch, later_of, sign_at
 
 ONE = (1, 1)
 
@@ -29,7 +32,7 @@ def check_end(end):
 
 def check_stretch(low, high):
     """Refuse ends of which the first one is not below the second one."""
-    if low is not None and high is not None and sign_of_difference(low, high) != -1:
+    if not is_stretch(low, high):
         raise InvalidOperation("the low end is not below the high one")
 
 
@@ -67,43 +70,11 @@ def chain_paper(chain):
     return (closed(0, common), closed_all(0, row), told)
 
 
-def sign_of(number):
-    """-1, 0 or 1 as the integer is below 0, 0, or above it."""
-    if number == 0:
-        return 0
-    return -1 if number < 0 else 1
-
-
-def sign_at(inner, end, far):
-    """The sign of an inner poly at a fraction; for None it is the sign far below (-1) or far above (1)."""
-    numbers = inner[0]
-    if end is None:
-        turn = far if len(numbers) % 2 == 0 else 1
-        return turn * sign_of(numbers[-1])
-    value, bottom = 0, 1
-    for number in reversed(numbers):
-        value = value * end[0] + number * bottom
-        bottom = bottom * end[1]
-    return sign_of(value)
-
-
-def changes_at(chain, end, far):
-    """The changes of the row of a chain at an end."""
-    many, before = 0, 0
-    for inner in chain[1]:
-        sign = sign_at(inner, end, far)
-        if sign != 0:
-            if sign * before == -1:
-                many += 1
-            before = sign
-    return many
-
-
 def roots_between(chain, low, high):
     """How many unlike roots the poly of a chain has in a stretch."""
     if chain is None:
         return 0
-    return changes_at(chain, low, -1) - changes_at(chain, high, 1)
+    return changes_between(chain[1], low, high)
 
 
 def asked_chain(poly, low, high):
@@ -142,20 +113,6 @@ def root_bound(inner):
     while bound * sizes[-1] < sizes[-1] + max(sizes[:-1]):
         bound = 2 * bound
     return bound
-
-
-def later_of(one, other):
-    """The greater one of two low ends."""
-    if one is None or other is None:
-        return other if one is None else one
-    return other if sign_of_difference(one, other) == -1 else one
-
-
-def earlier_of(one, other):
-    """The lesser one of two high ends."""
-    if one is None or other is None:
-        return other if one is None else one
-    return one if sign_of_difference(one, other) == -1 else other
 
 
 def with_ends(inner, low, high):
@@ -210,11 +167,6 @@ def sign_answer(one, other, low, high):
     return (("sign", one, other, low, high, sign), (alone, start, stop, alone, chain_paper(clear)))
 
 
-def is_at_most(one, other):
-    """Whether the first one of two fractions is at most the second one."""
-    return sign_of_difference(one, other) != 1
-
-
 def apart(chain, stretch, later, further):
     """Two stretches with a root each, the roots unlike, halved until one is not above where the other one begins."""
     while not is_at_most(stretch[1], further[0]) and not is_at_most(further[1], stretch[0]):
@@ -264,7 +216,7 @@ def root_stretches(poly):
         return ()
     bound = root_bound(inner)
     low, high = (-bound, 1), (bound, 1)
-    waiting = [(low, high, changes_at(chain, low, -1), changes_at(chain, high, 1))]
+    waiting = [(low, high, changes_at(chain[1], low, -1), changes_at(chain[1], high, 1))]
     found = []
     while waiting:
         low, high, more, less = waiting.pop()
@@ -272,7 +224,7 @@ def root_stretches(poly):
             found.append((low, high))
         elif more - less > 1:
             half = middle(low, high)
-            between = changes_at(chain, half, 1)
+            between = changes_at(chain[1], half, 1)
             waiting.append((half, high, between, less))
             waiting.append((low, half, more, between))
     return tuple(found)

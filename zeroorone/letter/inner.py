@@ -1,147 +1,6 @@
-"""Polys of any degree and length, without checks.
-
-Inside, a poly is a pair of its integers, by ascending powers, and of one bottom for all of them. The last integer is
-not 0; over the ground 0 the bottom is above 0 and has nothing in common with all integers at once; modulo a prime the
-bottom is 1, and the integers are rests. So equal polys are equal pairs.
-"""
-from math import gcd
-
-from zeroorone.base.plain import is_zero, quotient, undone_modulo, vector_fits, whole_row
-
-NOTHING = ((), 1)
-UNIT = ((1,), 1)
-LETTER = ((0, 1), 1)
-
-
-def poly_fits(ground, value, most, limit):
-    """Whether the value is a poly of the ground, with a degree to `most`, below the limit; None bars nothing."""
-    if not isinstance(value, tuple) or most is not None and len(value) > most + 1:
-        return False
-    if not vector_fits(ground, value, len(value), limit):
-        return False
-    return len(value) == 0 or not is_zero(ground, value[-1])
-
-
-def opened(ground, poly):
-    """The inner poly of a poly."""
-    numbers, bottom = whole_row(ground, poly)
-    return (tuple(numbers), bottom)
-
-
-def closed(ground, inner):
-    """The poly of an inner poly."""
-    numbers, bottom = inner
-    if ground != 0:
-        return numbers
-    return tuple([quotient(0, number, bottom) for number in numbers])
-
-
-def without_zeros(numbers):
-    """The numbers without the zeros at their end."""
-    many = len(numbers)
-    while many > 0 and numbers[many - 1] == 0:
-        many -= 1
-    return tuple(numbers[:many])
-
-
-def settled(ground, numbers, bottom):
-    """The inner poly of integers over a bottom other than 0 in the ground."""
-    if ground != 0:
-        back = undone_modulo(bottom, ground)
-        return (without_zeros([number * back % ground for number in numbers]), 1)
-    common = bottom
-    for number in numbers:
-        common = gcd(common, number)
-    if bottom < 0:
-        common = -common
-    return (without_zeros([number // common for number in numbers]), bottom // common)
-
-
-def degree_of(inner):
-    """The degree, -1 for 0."""
-    return len(inner[0]) - 1
-
-
-def head_of(ground, inner):
-    """The head number of a poly other than 0."""
-    return quotient(ground, inner[0][-1], inner[1])
-
-
-def lengthened(numbers, many):
-    """The numbers, and zeros behind them, so many in all."""
-    return list(numbers) + [0] * (many - len(numbers))
-
-
-def mixed(ground, one, other, sign):
-    """The first inner poly, and the second one times the sign put to it."""
-    many = max(len(one[0]), len(other[0]))
-    left, right = lengthened(one[0], many), lengthened(other[0], many)
-    return settled(ground, [x * other[1] + sign * y * one[1] for x, y in zip(left, right)], one[1] * other[1])
-
-
-def sum_of(ground, one, other):
-    """The sum of two inner polys."""
-    return mixed(ground, one, other, 1)
-
-
-def difference_of(ground, one, other):
-    """The difference of two inner polys."""
-    return mixed(ground, one, other, -1)
-
-
-def product_of(ground, one, other):
-    """The product of two inner polys."""
-    numbers = [0] * (len(one[0]) + len(other[0]))
-    for i, x in enumerate(one[0]):
-        for j, y in enumerate(other[0]):
-            numbers[i + j] += x * y
-    return settled(ground, numbers, one[1] * other[1])
-
-
-def power_of(ground, inner, many):
-    """The power of an inner poly, 1 for 0."""
-    result = UNIT
-    for _ in range(many):
-        result = product_of(ground, result, inner)
-    return result
-
-
-def divided_by(ground, one, other):
-    """The quotient and the rest of two inner polys, the second one not 0."""
-    many = len(one[0]) - len(other[0]) + 1
-    if many <= 0:
-        return (NOTHING, one)
-    lead, upper = other[0][-1], len(other[0]) - 1
-    rest, parts = list(one[0]), [0] * many
-    scale = one[1]
-    for at in reversed(range(many)):
-        head = rest[at + upper]
-        rest = [lead * number for number in rest]
-        parts = [lead * number for number in parts]
-        parts[at] = head
-        for j, number in enumerate(other[0]):
-            rest[at + j] -= head * number
-        scale = scale * lead
-        if ground != 0:
-            rest = [number % ground for number in rest]
-    return (settled(ground, [part * other[1] for part in parts], scale), settled(ground, rest, scale))
-
-
-def over_poly(ground, one, other):
-    """The quotient of two inner polys of which the second one divides the first one."""
-    return divided_by(ground, one, other)[0]
-
-
-def monic(ground, inner):
-    """The inner poly divided by its head number; 0 for 0."""
-    if inner == NOTHING:
-        return inner
-    return settled(ground, inner[0], inner[0][-1])
-
-
-def slope(ground, inner):
-    """The derivative."""
-    return settled(ground, [k * number for k, number in enumerate(inner[0])][1:], inner[1])
+"""What inner polys have in common, without checks."""
+from zeroorone.paper.polys import NOTHING, UNIT, closed, difference_of, divided_by, monic, opened, over_poly, product_of
+from zeroorone.paper.polys import settled
 
 
 def by_head(ground, inner, poly):
@@ -178,3 +37,13 @@ def common_part(ground, one, other):
     while after != NOTHING:
         rest, after = after, monic(ground, divided_by(ground, rest, after)[1])
     return monic(ground, rest)
+
+
+def rest_of_product(ground, one, other, modulus):
+    """The rest of the product of two inner polys by a third one."""
+    return divided_by(ground, product_of(ground, one, other), modulus)[1]
+
+
+def product_poly(ground, one, other):
+    """The product of two polys."""
+    return closed(ground, product_of(ground, opened(ground, one), opened(ground, other)))

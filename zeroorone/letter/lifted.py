@@ -1,28 +1,21 @@
 """Polys over the fractions: whole rows, lifts, parts, and papers that a poly is unsplit (stage 8)."""
 from itertools import combinations
-from math import gcd
 
-from zeroorone.base.plain import SIXTY_DIGITS, check_between, common_multiple, has_no_parts, integer_power, is_below
-from zeroorone.base.plain import is_int, quotient
+from zeroorone.base.plain import SIXTY_DIGITS, check_between
 from zeroorone.errors import InvalidNumber, InvalidOperation, InvalidPoly
-from zeroorone.letter.inner import UNIT, closed, common_part, common_with_sums, degree_of, divided_by, monic
-from zeroorone.letter.inner import over_poly, poly_fits, product_of, settled, slope
-from zeroorone.letter.modparts import check_monic, check_other_than_0, part_rows, unsplit_paper
+from zeroorone.letter.inner import common_part, common_with_sums
+from zeroorone.letter.modparts import check_monic, check_other_than_0, part_rows, roots_of, unsplit_paper
 from zeroorone.letter.rests import inner_of, square_rows
+from zeroorone.paper.numbers import common_multiple, has_no_parts, integer_power, is_below, is_int, quotient
+from zeroorone.paper.numbers import undone_modulo
+from zeroorone.paper.parts import bound_of, lot_row, made_small, product_modulo, whole_quotient, whole_row_of
+from zeroorone.paper.polys import UNIT, closed, degree_of, divided_by, monic, over_poly, poly_fits, product_of, settled
+from zeroorone.paper.polys import slope
+from zeroorone.paper.roots import sign_at
 
 MOST_INTEGERS = 13
 PRIMES_BELOW = 10000
 MOST_LIFTS = 200
-
-
-def whole_row_of(inner):
-    """The whole row of an inner poly other than 0."""
-    common = 0
-    for number in inner[0]:
-        common = gcd(common, number)
-    if inner[0][-1] < 0:
-        common = -common
-    return tuple([number // common for number in inner[0]])
 
 
 def whole_of(poly):
@@ -39,11 +32,6 @@ def check_row(whole):
         raise InvalidPoly("no row of 2 to 13 integers")
     if not all([is_below(number, SIXTY_DIGITS) for number in whole]) or whole[-1] == 0:
         raise InvalidPoly("no row of integers that fit")
-
-
-def bound_of(whole):
-    """What no integer of a row that divides this one, made as long in its last integer, is above in size."""
-    return integer_power(2, len(whole) - 1) * sum([abs(number) for number in whole])
 
 
 def size_bound(whole):
@@ -79,18 +67,6 @@ def fitting_prime(poly):
     if degree_of(inner) < 1 or not has_each_part_once(inner):
         raise InvalidOperation("no poly of a degree of at least 1 with each part once")
     return first_fitting(whole_row_of(inner))
-
-
-def product_modulo(modulus, rows):
-    """The product of rows of integers, its integers rests by the modulus."""
-    product_row = [1]
-    for row in rows:
-        longer = [0] * (len(product_row) + len(row) - 1)
-        for i, x in enumerate(product_row):
-            for j, y in enumerate(row):
-                longer[i + j] += x * y
-        product_row = [number % modulus for number in longer]
-    return product_row
 
 
 def unit_sums(prime, inners):
@@ -167,39 +143,10 @@ def lifting(whole):
     return (prime, many, lifts_of(whole, prime, inners, many), inners)
 
 
-def made_small(number, modulus):
-    """The integer above minus half of the modulus, and at most half of it, with the same rest."""
-    rest = number % modulus
-    return rest - modulus if 2 * rest > modulus else rest
-
-
-def whole_quotient(whole, divisor):
-    """The whole row that times the divisor, a whole row, makes this row; None if there is none."""
-    left = list(whole)
-    top = len(divisor) - 1
-    numbers = []
-    for at in reversed(range(len(whole) - top)):
-        often, rest = divmod(left[at + top], divisor[top])
-        if rest != 0:
-            return None
-        numbers.append(often)
-        for j, number in enumerate(divisor):
-            left[at + j] -= often * number
-    if any([number != 0 for number in left]):
-        return None
-    return tuple(reversed(numbers))
-
-
-def lot_row(whole, modulus, lot):
-    """The whole row of the last integer times the product of a lot of lifts, made small."""
-    made = product_modulo(modulus, lot)
-    return whole_row_of(([made_small(whole[-1] * number, modulus) for number in made], 1))
-
-
 def first_dividing(whole, left, modulus, lifts, many):
     """(indices, row, quotient) for the first lot of so many lifts that gives a row that divides what is left."""
     for indices in combinations(range(len(lifts)), many):
-        row = lot_row(whole, modulus, [lifts[index] for index in indices])
+        row = lot_row(whole, modulus, product_modulo(modulus, [lifts[index] for index in indices]))
         further = whole_quotient(left, row)
         if further is not None:
             return (indices, row, further)
@@ -272,10 +219,45 @@ def fraction_unsplit_answer(poly):
     return (("parted", 0, poly), (part, closed(0, over_poly(0, inner, inner_of(0, part)))))
 
 
+def lifted_root(whole, prime, root, modulus):
+    """(root, modulus): a root of a whole row that fits, made one modulo a power of the prime that is above a bound."""
+    inner, change = (whole, 1), slope(0, (whole, 1))
+    power = prime
+    while power <= modulus:
+        power = power * power
+        back = undone_modulo(value_modulo(change[0], root, power), power)
+        root = (root - value_modulo(inner[0], root, power) * back) % power
+    return (root, power)
+
+
+def value_modulo(row, number, modulus):
+    """The rest of the value of a row of integers at an integer."""
+    value = 0
+    for part in reversed(row):
+        value = (value * number + part) % modulus
+    return value
+
+
+def roots_of_fractions(inner):
+    """All fractions at which an inner poly other than 0 is 0, ascending by value."""
+    once = over_poly(0, inner, common_part(0, inner, slope(0, inner)))
+    whole = whole_row_of(once)
+    if len(whole) == 1:
+        return ()
+    prime = first_fitting(whole)
+    roots = []
+    for start in roots_of(prime, settled(prime, whole, 1)):
+        root, modulus = lifted_root(whole, prime, start, 2 * bound_of(whole))
+        # A root, times the last integer, is a whole number of at most this size.
+        found = quotient(0, made_small(whole[-1] * root, modulus), whole[-1])
+        if sign_at(once, found, 0) == 0:
+            roots.append(found)
+    bottom = common_multiple([root[1] for root in roots])
+    return tuple(sorted(roots, key=lambda root: root[0] * (bottom // root[1])))
+
+
 def fraction_roots(poly):
     """All fractions at which the poly is 0, ascending by value."""
     inner = inner_of(0, poly)
     check_other_than_0(inner)
-    roots = [(-part[0][0], part[0][1]) for part, _, _ in fraction_rows(inner) if len(part) == 2]
-    bottom = common_multiple([root[1] for root in roots])
-    return tuple(sorted(roots, key=lambda root: root[0] * (bottom // root[1])))
+    return roots_of_fractions(inner)

@@ -1,41 +1,18 @@
 """Polys modulo a prime: powers by a modulus, parts, and papers that a poly is unsplit (stage 7)."""
-from zeroorone.base.plain import SIXTY_DIGITS, check_between, check_prime_ground, integer_power
+from zeroorone.base.plain import SIXTY_DIGITS, check_between, check_prime_ground
 from zeroorone.errors import InvalidOperation
-from zeroorone.letter.inner import LETTER, NOTHING, UNIT, closed, common_part, common_with_sums, degree_of
-from zeroorone.letter.inner import difference_of, divided_by, lengthened, monic, over_poly, product_of, settled
+from zeroorone.letter.inner import common_part, common_with_sums
 from zeroorone.letter.rests import closed_all, inner_of, square_rows
+from zeroorone.paper.numbers import integer_power
+from zeroorone.paper.polys import LETTER, NOTHING, UNIT, closed, degree_of, difference_of, lengthened, monic, over_poly
+from zeroorone.paper.polys import product_of, rest_by, rest_of_power, settled, turns
+from zeroorone.paper.tables import turned
 from zeroorone.primes.primes import prime_powers
-from zeroorone.tables.rows import kernel_rows, put_to, turned
+from zeroorone.tables.rows import kernel_rows, put_to
 
 MOST_TURNS = 24
 MOST_COUNTED = 60
 MOST_FIRST = 6
-
-
-def rest_by(prime, inner, modulus):
-    """The rest of an inner poly by another one."""
-    return divided_by(prime, inner, modulus)[1]
-
-
-def rest_of_power(prime, one, many, modulus):
-    """The rest of a power, with an exponent from 0 on, by an inner poly other than 0."""
-    result = rest_by(prime, UNIT, modulus)
-    base = rest_by(prime, one, modulus)
-    while many > 0:
-        if many % 2 == 1:
-            result = rest_by(prime, product_of(prime, result, base), modulus)
-        many = many // 2
-        if many > 0:
-            base = rest_by(prime, product_of(prime, base, base), modulus)
-    return result
-
-
-def turns(prime, modulus, many):
-    """The rests of t, t ** p, t ** (p ** 2) and so on, to the number `many`, by an inner poly other than 0."""
-    rests = [rest_by(prime, LETTER, modulus)]
-    for _ in range(many):
-        rests.append(rest_of_power(prime, rests[-1], prime, modulus))
-    return rests
 
 
 def power_rest(ground, one, many, poly):

@@ -1,10 +1,10 @@
 """Polys: sums, products, rests, and what they have in common (stage 6)."""
-from zeroorone.base.plain import SIXTY_DIGITS, check_between, check_ground, check_number, number_of, opposite, plus
-from zeroorone.base.plain import power, times
+from zeroorone.base.plain import SIXTY_DIGITS, check_between, check_ground, check_number, plus
 from zeroorone.errors import InvalidOperation, InvalidPoly
-from zeroorone.letter.inner import LETTER, NOTHING, UNIT, closed, common_part, common_with_sums, degree_of
-from zeroorone.letter.inner import difference_of, divided_by, head_of, monic, opened, over_poly, poly_fits
-from zeroorone.letter.inner import power_of, product_of, slope, sum_of
+from zeroorone.letter.inner import common_part, common_with_sums
+from zeroorone.paper.numbers import number_of, opposite, power, times
+from zeroorone.paper.polys import LETTER, NOTHING, UNIT, closed, degree_of, difference_of, divided_by, head_of, monic
+from zeroorone.paper.polys import opened, over_poly, poly_fits, power_of, product_of, slope, sum_of
 
 MAX_DEGREE = 12
 MOST_PAIRS = 4
@@ -77,15 +77,20 @@ def poly_divided(ground, one, other):
     return (closed(ground, often), closed(ground, rest))
 
 
+def number_at(ground, poly, number):
+    """The value of the poly at a number, without checks."""
+    value = number_of(ground, 0)
+    for part in reversed(poly):
+        value = plus(ground, times(ground, value, number), part)
+    return value
+
+
 def value_at(ground, poly, number):
     """The value of the poly at a number."""
     check_ground(ground)
     check_poly(ground, poly)
     check_number(ground, number)
-    value = number_of(ground, 0)
-    for part in reversed(poly):
-        value = plus(ground, times(ground, value, number), part)
-    return value
+    return number_at(ground, poly, number)
 
 
 def shifted(ground, poly, number):

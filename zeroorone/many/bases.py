@@ -2,11 +2,12 @@
 from heapq import heappop, heappush
 from itertools import combinations
 
-from zeroorone.base.plain import SIXTY_DIGITS, number_of
-from zeroorone.many.packed import Frame, all_ordered, common_key, crossed_of, difference_of, divided_by, dividers_of
-from zeroorone.many.packed import form_fits, head_of, is_finite, letters_of, nothing, raised, rest_by, scaled
-from zeroorone.many.packed import settled, standing_keys, sum_of, sum_of_products, unit
+from zeroorone.base.plain import SIXTY_DIGITS
+from zeroorone.many.packed import divided_by, dividers_of, is_finite, rest_by, standing_keys
 from zeroorone.many.terms import MAX_FORM_DEGREE, check_form, check_forms, check_order, check_size
+from zeroorone.paper.forms import Frame, all_ordered, common_key, crossed_of, difference_of, form_fits, head_of
+from zeroorone.paper.forms import letters_of, nothing, raised, scaled, settled, sum_of, sum_of_products, unit
+from zeroorone.paper.numbers import number_of
 from zeroorone.search.building import built, leave_nothing
 from zeroorone.tables.rows import put_to
 
@@ -163,13 +164,19 @@ def row_on(frame, further, rests, keys):
     return settled(further, {key: number for key, number in zip(keys, sums)}, sums[-1])
 
 
+def rows_modulo(frame, rows, prime):
+    """(frame, rows): rows by a frame over the fractions, read modulo a prime that divides no bottom."""
+    lower = Frame(prime, frame.size, frame.order)
+    return (lower, [settled(lower, row[0], row[1]) for row in rows])
+
+
 def learned_rows(frame, rows, further, prime):
     """The reduced basis in the order of the second frame over the fractions, its keys told by that modulo a prime.
 
     None if the prime misleads: if these rows are not there, or no basis, or the rows by the first order not within.
     """
-    lower, upper = Frame(prime, frame.size, frame.order), Frame(prime, frame.size, further.order)
-    read = [settled(lower, row[0], row[1]) for row in rows]
+    upper = Frame(prime, frame.size, further.order)
+    lower, read = rows_modulo(frame, rows, prime)
     guessed = [row[0] for row in built(upper, upper.all_opened(lower.all_closed(read))).reduced()]
     keys = [sorted(row[0]) for row in guessed]
     rests = rests_of_keys(frame, rows, [frame.packed(further.unpacked(key)) for told in keys for key in told])

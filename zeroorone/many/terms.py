@@ -1,10 +1,12 @@
 """Forms: sums, products, heads, divisions and crossed pairs (stage 10)."""
-from zeroorone.base.plain import SIXTY_DIGITS, check_between, check_ground, is_zero, number_of, vector_fits
+from zeroorone.base.plain import SIXTY_DIGITS, check_between, check_ground
 from zeroorone.errors import InvalidForm, InvalidTable, Refused, TooMany, UnknownName
 from zeroorone.letter.rests import check_poly
-from zeroorone.many.packed import ORDERS, WIDTH, Frame, crossed_of, difference_of, divided_by, form_fits, head_of
-from zeroorone.many.packed import letter_key, monic, nothing, number_inner, power_of, product_of, sum_of
-from zeroorone.many.packed import sum_of_products
+from zeroorone.many.packed import divided_by
+from zeroorone.paper.forms import ORDERS, WIDTH, Frame, crossed_of, degree_of_form, difference_of, form_fits, head_of
+from zeroorone.paper.forms import letter_key, monic, number_inner, power_of, product_of, put_inside, sum_of
+from zeroorone.paper.forms import sum_of_products
+from zeroorone.paper.numbers import is_zero, number_of, vector_fits
 
 MAX_FORM_DEGREE = 12
 MAX_FORMS = 6
@@ -42,11 +44,6 @@ def is_form(ground, size, value):
     """Whether the value is a form of the size with a degree of at most twelve."""
     check_size(ground, size)
     return form_fits(ground, size, value, MAX_FORM_DEGREE, SIXTY_DIGITS)
-
-
-def degree_of_form(form):
-    """The greatest sum of exponents in a key, -1 for 0."""
-    return max([sum(key) for key in form], default=-1)
 
 
 def degree(ground, size, form):
@@ -120,21 +117,6 @@ def monic_form(ground, size, form, order):
     """The form, divided by its head number."""
     frame, inner = opened_with_head(ground, size, form, order)
     return frame.closed(monic(frame, inner))
-
-
-def put_inside(frame, form, inners):
-    """The inner form that comes with inner forms put in for all letters of a form, one letter behind the other."""
-    if not inners:
-        return number_inner(frame, form[()])
-    rows = {}
-    for key in form:
-        rows.setdefault(key[0], {})[key[1:]] = form[key]
-    result = nothing()
-    for exponent in reversed(range(max(rows, default=-1) + 1)):
-        result = product_of(frame, result, inners[0])
-        if exponent in rows:
-            result = sum_of(frame, result, put_inside(frame, rows[exponent], inners[1:]))
-    return result
 
 
 def value_at(ground, size, form, vector):

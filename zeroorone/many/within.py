@@ -1,12 +1,11 @@
 """What is within forms: lots compared, letters taken out, meets, quotients, free letters (stage 12)."""
-from itertools import combinations
-
-from zeroorone.base.plain import check_between, opposite
+from zeroorone.base.plain import check_between
 from zeroorone.errors import Refused
 from zeroorone.many.bases import Basis, lex_rows, rows_by
-from zeroorone.many.packed import Frame, all_ordered, difference_of, dividers_of, divided_by, head_of, letters_of
-from zeroorone.many.packed import ordered, raised, rest_by
+from zeroorone.many.packed import divided_by, dividers_of, rest_by
 from zeroorone.many.terms import check_form, check_forms, check_size
+from zeroorone.paper.bases import mixed_forms, most_free, without_letters
+from zeroorone.paper.forms import Frame, all_ordered, difference_of, head_of, letters_of, ordered, raised
 
 
 def outside_paper(basis, inner):
@@ -59,11 +58,6 @@ def lots_answer(ground, size, forms, others):
     return (("same lot",) + question, (there, back))
 
 
-def without_letters(forms, many):
-    """The forms in no key of which one of the first so many letters stands."""
-    return tuple([form for form in forms if all([sum(key[:many]) == 0 for key in form])])
-
-
 def taken_out(basis, frame, rows, many):
     """(found, paper) of the claim about what is left if the first so many letters are taken out."""
     closed = frame.all_closed(rows)
@@ -79,16 +73,6 @@ def taken_out_answer(ground, size, forms, many):
     frame, rows = basis.by("lex")
     found, paper = taken_out(basis, frame, rows, many)
     return (("taken out", ground, size, all_ordered(forms), many, found), paper)
-
-
-def mixed_forms(ground, forms, others):
-    """The first forms times a further letter ahead of all, and the others times 1 less this letter."""
-    made = [{(1,) + key: form[key] for key in form} for form in forms]
-    for other in others:
-        mixed = {(0,) + key: number for key, number in other.items()}
-        mixed.update({(1,) + key: opposite(ground, number) for key, number in other.items()})
-        made.append(mixed)
-    return tuple(made)
 
 
 def without_first(forms):
@@ -152,16 +136,6 @@ def quotient_answer(ground, size, forms, form):
     basis = Basis(ground, size, divided, "lex")
     claim = ("quotient", ground, size, all_ordered(forms), ordered(form), frame.all_closed(basis.rows))
     return (claim, (rows, paper, divided, basis.paper(frame, basis.rows)))
-
-
-def most_free(size, keys):
-    """The greatest number of letters for which none of the keys has no letters but these, -1 if there are none."""
-    greatest = -1
-    for many in range(size + 1):
-        for letters in combinations(range(size), many):
-            if not any([sum(key) == sum([key[letter] for letter in letters]) for key in keys]):
-                greatest = many
-    return greatest
 
 
 def free_answer(ground, size, forms):

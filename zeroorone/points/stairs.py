@@ -1,12 +1,15 @@
 """Finite forms: standing products, tables, least polys, thinned forms, mixes that tell (stage 13)."""
-from zeroorone.base.plain import quotient
 from zeroorone.errors import Refused
-from zeroorone.letter.inner import closed, common_part, monic, over_poly, settled, slope
-from zeroorone.many.bases import Basis, rows_by, vector_on
-from zeroorone.many.packed import all_ordered, dividers_of, divided_by, has_power, head_of, is_finite, letter_key
-from zeroorone.many.packed import letters_of, nothing, ordered, product_of, raised, rest_by, scaled, standing_keys
-from zeroorone.many.packed import sum_of, unit
+from zeroorone.letter.inner import common_part
+from zeroorone.many.bases import LEARNED_BY, Basis, rows_by, rows_modulo, vector_on
+from zeroorone.many.packed import divided_by, dividers_of, is_finite, rest_by, standing_keys
 from zeroorone.many.terms import check_form, check_forms, check_size
+from zeroorone.paper.finite import has_power
+from zeroorone.paper.forms import all_ordered, head_of, letters_of, nothing, ordered, product_of, raised, scaled, sum_of
+from zeroorone.paper.forms import unit
+from zeroorone.paper.numbers import quotient
+from zeroorone.paper.polys import UNIT, closed, monic, over_poly, settled, slope
+from zeroorone.search.building import built
 from zeroorone.tables.rows import put_to, rank_paper
 
 
@@ -33,7 +36,7 @@ def finite_answer(ground, size, forms):
     paper = ("deg", frame.all_closed(basis.rows), basis.paper(frame, basis.rows))
     keys = [head_of(row) for row in basis.rows]
     for index in range(size):
-        if not has_power(frame, keys, index):
+        if not has_power([frame.unpacked(key) for key in keys], index):
             return (("endless",) + question, paper + (index,))
     return (("finite",) + question + (len(standing_keys(frame, keys)),), paper)
 
@@ -87,9 +90,9 @@ def tables_answer(ground, size, forms):
 
 
 def rest_powers(frame, rows, keys, inner):
-    """(rests, sums): the rests of the powers of an inner form from 0 on, to the first one that the others tell.
+    """(rests, sums, rungs): the rests of the powers of an inner form from 0 on, to the first one that the others tell.
 
-    The sums are integers, one for each of these rests: so many times they add up to 0.
+    The sums are integers, one for each of these rests: so many times they add up to 0. The others are put to the rungs.
     """
     dividers = dividers_of(frame, rows)
     rests = [rest_by(frame, unit(), dividers)]
@@ -98,7 +101,7 @@ def rest_powers(frame, rows, keys, inner):
     while sums is None:
         rests.append(rest_by(frame, product_of(frame, inner, rests[-1]), dividers))
         sums = put_to(frame.ground, rungs, vector_on(keys, rests[-1]), rests[-1][1], len(keys))
-    return (rests, sums)
+    return (rests, sums, rungs)
 
 
 def least_inner(frame, rows, keys, inner):
@@ -151,62 +154,94 @@ def least_poly_answer(ground, size, forms, form):
     return (claim, paper + (frame.all_closed(rests), ranked))
 
 
-def thinned_rows(size, forms):
-    """The frame, and the rows of the reduced basis of the thinned forms."""
-    frame, rows = rows_by(0, size, "deg", forms)
+def sum_of_rests(frame, poly, rests):
+    """The sum of rests, each times a number of an inner poly."""
+    return sum_by(frame, poly, [[rest] for rest in rests])[0]
+
+
+def is_thin(frame, rows, keys, many):
+    """Whether a prime shows that there are as many points as standing products; the others tell nothing.
+
+    It does if the least poly of a mix has this degree and no square part modulo the prime.
+    """
+    prime = LEARNED_BY[0]
+    if any([row[1] % prime == 0 for row in rows]):
+        return False
+    lower, read = rows_modulo(frame, rows, prime)
+    least = least_inner(lower, read, keys, mix_of(lower, len(keys), many))
+    return len(least[0]) == len(keys) + 1 and common_part(prime, least, slope(prime, least)) == UNIT
+
+
+def thinned_of(frame, rows, many):
+    """The rows of the reduced basis of the thinned forms, of finite rows by "deg".
+
+    The first so many letters are thinned, of which the others are to be sums of multiples.
+    """
     keys = finite_keys(frame, rows)
     further = []
-    for index, letter in enumerate(letters_of(frame)):
-        least = least_inner(frame, rows, keys, ({letter: 1}, 1))
-        once = closed(0, over_poly(0, least, common_part(0, least, slope(0, least))))
-        further.append({
-            letter_key(size, index, exponent): number for exponent, number in enumerate(once) if number[0] != 0
-        })
-    return rows_by(0, size, "deg", frame.all_closed(rows) + tuple(further))
+    if is_thin(frame, rows, keys, many):
+        return rows
+    for letter in letters_of(frame)[:many]:
+        rests, sums, _ = rest_powers(frame, rows, keys, ({letter: 1}, 1))
+        least = settled(0, sums, 1)
+        common = common_part(0, least, slope(0, least))
+        # Otherwise what would be put to them is within already.
+        if common != UNIT:
+            further.append(sum_of_rests(frame, over_poly(0, least, common), rests))
+    if not further:
+        return rows
+    return [row[0] for row in built(frame, rows + further).reduced()]
 
 
 def thinned(size, forms):
     """The reduced basis of the thinned forms."""
     check_question(0, size, forms)
-    frame, rows = thinned_rows(size, forms)
-    return frame.all_closed(rows)
+    frame, rows = rows_by(0, size, "deg", forms)
+    return frame.all_closed(thinned_of(frame, rows, size))
 
 
-def mix_of(frame, number):
-    """The mix of an integer: a + k b + k k c, for as many letters as there are."""
+def mix_of(frame, number, many):
+    """The mix of an integer: a + k b + k k c, for the first so many letters."""
     mix, factor = nothing(), 1
-    for letter in letters_of(frame):
+    for letter in letters_of(frame)[:many]:
         mix = sum_of(frame, mix, ({letter: factor}, 1) if factor != 0 else nothing())
         factor = factor * number
     return mix
 
 
-def letter_values(frame, keys, rests, rows):
-    """For each letter its poly in the mix, the rests of the powers of the mix being told."""
-    rungs = []
-    width = len(keys)
-    for rest in rests:
-        put_to(0, rungs, vector_on(keys, rest), rest[1], width)
+def letter_values(frame, keys, rungs, rows, many):
+    """For each of the first so many letters its poly in the mix, to whose powers' rests the rungs were put."""
     dividers = dividers_of(frame, rows)
     values = []
-    for letter in letters_of(frame):
+    for letter in letters_of(frame)[:many]:
         rest = rest_by(frame, ({letter: 1}, 1), dividers)
-        sums = put_to(0, rungs, vector_on(keys, rest), rest[1], width)
+        sums = put_to(0, rungs, vector_on(keys, rest), rest[1], len(keys))
         values.append(closed(0, settled(0, sums[:-1], -sums[-1])))
     return tuple(values)
+
+
+def told_by_mix(frame, rows, many):
+    """(k, poly, values) of [13.6] for thinned rows by which something stands, by the first so many letters."""
+    keys = finite_keys(frame, rows)
+    number = 0
+    _, sums, rungs = rest_powers(frame, rows, keys, mix_of(frame, number, many))
+    while len(sums) - 1 < len(keys):
+        number += 1
+        _, sums, rungs = rest_powers(frame, rows, keys, mix_of(frame, number, many))
+    poly = closed(0, monic(0, settled(0, sums, 1)))
+    return (number, poly, letter_values(frame, keys, rungs, rows, many))
+
+
+def is_unit(rows):
+    """Whether 1 is within the rows of a reduced basis."""
+    return rows == [unit()]
 
 
 def telling_mix(size, forms):
     """(k, poly, values): the least integer whose mix tells, its least poly, and each letter as a poly of the mix."""
     check_question(0, size, forms)
-    frame, rows = thinned_rows(size, forms)
-    keys = finite_keys(frame, rows)
-    if not keys:
+    frame, rows = rows_by(0, size, "deg", forms)
+    rows = thinned_of(frame, rows, size)
+    if is_unit(rows):
         raise Refused(("nothing",))
-    number = 0
-    rests, sums = rest_powers(frame, rows, keys, mix_of(frame, number))
-    while len(sums) - 1 < len(keys):
-        number += 1
-        rests, sums = rest_powers(frame, rows, keys, mix_of(frame, number))
-    poly = closed(0, monic(0, settled(0, sums, 1)))
-    return (number, poly, letter_values(frame, keys, rests[:-1], rows))
+    return told_by_mix(frame, rows, size)

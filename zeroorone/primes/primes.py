@@ -1,9 +1,9 @@
 """Primes with papers, parts, divisors and orders (stage 2)."""
 from math import gcd
 
-from zeroorone.base.plain import check_between, check_integer, has_no_parts, integer_power, is_int, least_divisor
-from zeroorone.base.plain import power_modulo
+from zeroorone.base.plain import check_between, check_integer, least_divisor
 from zeroorone.errors import InvalidNumber, InvalidOperation
+from zeroorone.paper.numbers import has_no_parts, integer_power, is_int, power_modulo
 
 MOST = 10 ** 8
 

@@ -2,8 +2,8 @@
 from heapq import heappop, heappush
 from math import gcd
 
-from zeroorone.many.packed import common_key, dividers_of, division_steps, gathered, monic, quotients_of, scaled
-from zeroorone.many.packed import sum_of, sum_of_products, unit
+from zeroorone.many.packed import dividers_of, division_steps, gathered, quotients_of
+from zeroorone.paper.forms import common_key, monic, scaled, sum_of, sum_of_products, unit
 
 
 class Build:

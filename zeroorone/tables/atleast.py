@@ -1,10 +1,11 @@
 """Wishes that sums be at least some fractions: reached or never, greatest values, bad lots (stage 5)."""
 from itertools import combinations
 
-from zeroorone.base.plain import SIXTY_DIGITS, check_number, dot, integer_dot, minus, opposite, plus, quotient
-from zeroorone.base.plain import sign_of_difference, times, vector_fits, whole_row
+from zeroorone.base.plain import SIXTY_DIGITS, check_number, minus, plus
 from zeroorone.errors import InvalidTable, TooMany
-from zeroorone.tables.rows import product_rows, table_fits
+from zeroorone.paper.numbers import dot, integer_dot, opposite, quotient, sign_of_difference, times, vector_fits
+from zeroorone.paper.numbers import whole_row
+from zeroorone.paper.tables import shows_never_reached, shows_reached, table_fits
 
 MOST_WISHES = 10
 MOST_LETTERS = 6
@@ -28,35 +29,23 @@ def check_letters(table, vector):
         raise InvalidTable("no vector for the columns of the table")
 
 
-def slacks_of(table, goal, vector):
-    """The vector A x less b."""
-    return tuple([minus(0, dot(0, row, vector), bound) for row, bound in zip(table, goal)])
-
-
-def is_from_zero(vector):
-    """Whether all fractions are at least 0."""
-    return all([top >= 0 for top, _ in vector])
-
-
 def slacks(table, goal, vector):
     """The vector A x less b."""
     check_fit(table, goal)
     check_letters(table, vector)
-    return slacks_of(table, goal, vector)
+    return tuple([minus(0, dot(0, row, vector), bound) for row, bound in zip(table, goal)])
 
 
 def is_reaching(table, goal, value):
     """Whether the value is a paper for reached."""
     check_fit(table, goal)
-    return vector_fits(0, value, len(table[0]), None) and is_from_zero(slacks_of(table, goal, value))
+    return shows_reached(value, table, goal)
 
 
 def is_bar(table, goal, value):
     """Whether the value is a paper for never reached."""
     check_fit(table, goal)
-    if not vector_fits(0, value, len(table), None) or not is_from_zero(value) or dot(0, value, goal) != ONE:
-        return False
-    return all([number == ZERO for number in product_rows(0, (value,), table)[0]])
+    return shows_never_reached(value, table, goal)
 
 
 # A board has the equations y A = -c for the weights y, one for each letter, as rows of integers over one lead:

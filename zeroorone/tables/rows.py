@@ -1,47 +1,8 @@
 """Tables of any size without checks: rows are cleared column by column, in integers alone."""
 from math import gcd
 
-from zeroorone.base.plain import integer_dot, number_of, quotient, undone_modulo, vector_fits, whole_row
-
-
-def length_fits(value, most):
-    """Whether the value is a tuple of at least one member, and of at most so many, if that is not None."""
-    return isinstance(value, tuple) and len(value) >= 1 and (most is None or len(value) <= most)
-
-
-def rows_fit(value, most_rows, most_columns):
-    """Whether the value is a tuple of equally long tuples, with these limits for both."""
-    if not length_fits(value, most_rows) or not all([length_fits(row, most_columns) for row in value]):
-        return False
-    return len({len(row) for row in value}) == 1
-
-
-def table_fits(ground, value, most_rows, most_columns, limit):
-    """Whether the value is a table of the ground of at most so many rows and columns, below the limit."""
-    if not rows_fit(value, most_rows, most_columns):
-        return False
-    return all([vector_fits(ground, row, len(row), limit) for row in value])
-
-
-def turned(table):
-    """The table with rows and columns exchanged."""
-    return tuple([tuple([row[column] for row in table]) for column in range(len(table[0]))])
-
-
-def unit_rows(ground, size):
-    """The unit table."""
-    one, zero = number_of(ground, 1), number_of(ground, 0)
-    return tuple([tuple([one if i == j else zero for j in range(size)]) for i in range(size)])
-
-
-def product_rows(ground, one, other):
-    """The product of two tables that fit."""
-    left = [whole_row(ground, row) for row in one]
-    right = [whole_row(ground, column) for column in turned(other)]
-    return tuple([
-        tuple([quotient(ground, integer_dot(row, column), bottom * below) for column, below in right])
-        for row, bottom in left
-    ])
+from zeroorone.paper.numbers import number_of, quotient, undone_modulo, whole_row
+from zeroorone.paper.tables import product_rows, turned, unit_rows
 
 
 def beside(one, other):

@@ -1,8 +1,9 @@
 """Tables over a ground: reduced rows, determinants, equations and ranks (stage 3)."""
-from zeroorone.base.plain import check_between, check_ground, number_of, quotient, vector_fits, whole_row
+from zeroorone.base.plain import check_between, check_ground
 from zeroorone.errors import InvalidOperation, InvalidTable, Refused
-from zeroorone.tables.rows import beside, cleared, cleared_table, kernel_rows, numbers_over, product_rows, rank_paper
-from zeroorone.tables.rows import table_fits, turned, undone_rows, unit_rows
+from zeroorone.paper.numbers import number_of, quotient, vector_fits, whole_row
+from zeroorone.paper.tables import product_rows, table_fits, turned, unit_rows
+from zeroorone.tables.rows import beside, cleared, cleared_table, kernel_rows, numbers_over, rank_paper, undone_rows
 
 MAX_SIDE = 12
 TWENTY_DIGITS = 10 ** 20

@@ -1,9 +1,9 @@
 """Tables of integers: whole equations, stairs and steps (stage 4)."""
-from itertools import combinations
-
-from zeroorone.base.plain import bezout, dot, integer_dot, is_below, quotient
 from zeroorone.errors import InvalidTable
-from zeroorone.tables.rows import beside, rows_fit, turned
+from zeroorone.paper.numbers import bezout, dot, integer_dot, is_below, quotient
+from zeroorone.paper.tables import rows_fit, turned
+from zeroorone.paper.whole import find_first, parts_of_size, rows_are_stairs
+from zeroorone.tables.rows import beside
 
 MAX_WHOLE = 6
 TWENTY_DIGITS = 10 ** 20
@@ -18,14 +18,6 @@ def check_whole_table(table):
     """Refuse what is no whole table of at most six rows and columns, of at most twenty digits."""
     if not rows_fit(table, MAX_WHOLE, MAX_WHOLE) or not all([are_integers(row, TWENTY_DIGITS) for row in table]):
         raise InvalidTable("no whole table")
-
-
-def find_first(row):
-    """The index of the first number other than 0; the length of the row if there is none."""
-    for index, number in enumerate(row):
-        if number != 0:
-            return index
-    return len(row)
 
 
 def taken_off(row, often, upper):
@@ -83,19 +75,7 @@ def stairs(table):
 
 def is_stairs(value):
     """Whether the value is stairs, of any size and with integers of any length."""
-    if isinstance(value, tuple) and len(value) == 0:
-        return True
-    if not rows_fit(value, None, None) or not all([are_integers(row, None) for row in value]):
-        return False
-    before = -1
-    for index, row in enumerate(value):
-        lead = find_first(row)
-        if lead <= before or lead == len(row) or row[lead] < 0:
-            return False
-        if not all([0 <= upper[lead] < row[lead] for upper in value[:index]]):
-            return False
-        before = lead
-    return True
+    return rows_are_stairs(value)
 
 
 def taken_by_stairs(rows, row):
@@ -145,19 +125,6 @@ def stairs_answer(table):
     rows, up = stairs_with_sums(table)
     down = tuple([tuple(taken_by_stairs(rows, row)[0]) for row in table])
     return (("stairs", table, rows), (up, down))
-
-
-def parts_of_size(table, size, parts):
-    """The determinants of all parts with `size` rows and columns, by these, from those of the size before."""
-    found = {}
-    for rows in combinations(range(len(table)), size):
-        for columns in combinations(range(len(table[0])), size):
-            total, sign = 0, 1
-            for j in range(size):
-                total += sign * table[rows[0]][columns[j]] * parts[(rows[1:], columns[:j] + columns[j + 1:])]
-                sign = -sign
-            found[(rows, columns)] = total
-    return found
 
 
 def all_parts(table):

@@ -1,0 +1,1 @@
+"""Books of claims with papers and steps."""

@@ -1,0 +1,1 @@
+"""The checker of claims and papers, and what it reckons with."""
