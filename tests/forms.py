@@ -167,7 +167,7 @@ def check_reduced(case, ground, order, rows):
 
 def judge_basis(case, ground, size, order, gens, rows, paper):
     """[11.5]"""
-    case.assertTrue(are_forms(ground, size, rows) and {} not in rows and 1 <= size <= 4)
+    case.assertTrue(order in ("lex", "deg") and are_forms(ground, size, rows) and {} not in rows and 1 <= size <= 4)
     check_reduced(case, ground, order, rows)
     down, up, pairs = paper
     case.assertTrue(all(isinstance(part, tuple) for part in paper))

@@ -43,6 +43,7 @@ def changes(row, end, far):
 
 def judge_roots(case, f, low, high, n, paper):
     """[9.1] and the first row of the table."""
+    case.assertTrue(all(end is None or is_number(0, end, None) for end in (low, high)))
     if low is not None and high is not None:
         case.assertLess(fraction(low), fraction(high))
     if len(f) == 1:

@@ -2,6 +2,7 @@
 import ast
 import importlib
 import inspect
+import re
 import unittest
 from pathlib import Path
 
@@ -50,10 +51,33 @@ FUNCTIONS = {
     "zeroorone.points.stairs": """finite_answer(ground,size,forms) standing(ground,size,forms)
         table_of(ground,size,forms,form) tables_answer(ground,size,forms) least_poly_answer(ground,size,forms,form)
         thinned(size,forms) telling_mix(size,forms)""",
+    "zeroorone.points.points": """at_point(size,form,m,values) point_answer(size,zeros,others) all_points(size,zeros)
+        fraction_points(size,zeros) is_wish(size,value) cases(size,wish) holds(size,wish,place) wish_answer(size,wish)
+        alike_answer(size,one,other)""",
+    "zeroorone.points.counts": """trace_of(size,forms,form) trace_table(size,forms,form) signs_of(table)
+        change_of(table) is_change(table,value) complex_answer(size,forms) real_answer(size,forms)
+        signed_answer(size,forms,form)""",
+    "zeroorone.many.parted": """parted_form_answer(size,form) form_parts_answer(size,form)
+        shifted_form(size,form,shifts)""",
+    "zeroorone.primes.every": """every_kinds() led(claim,prime) led_paper(claim,paper,prime) but_number(claim,paper)
+        every_answer(claim,paper) left_out_primes(number)""",
+    "zeroorone.paper.checker": """kinds() is_claim(value) opposite(claim) takes(claim,paper)""",
+    "zeroorone.book.book": """follows(claim,reason,known)""",
+    "zeroorone.text.texts": """number_text(ground,number) poly_text(ground,poly) form_text(ground,size,form)
+        read_number(ground,value) read_poly(ground,value) read_form(ground,size,value) value_text(value)
+        read_value(value) book_text(book) read_book(value)""",
 }
 CLASSES = {
     "zeroorone.errors": """PaperError InvalidGround InvalidPoly InvalidForm InvalidTable InvalidName InvalidClaim
         InvalidWish InvalidOperation ParseError InvalidNumber UnknownName NothingToUndo TooMany Refused""",
+    "zeroorone.book.book": "Book", "zeroorone.text.shell": "Shell",
+}
+# Each method stands in the class itself; @ is a class method, ! a property, and what is behind * goes by keyword.
+METHODS = {
+    ("zeroorone.book.book", "Book"): """@told(rows) state(name,claim,paper) lean(name,claim,reason) strike(name)
+        rename(names) join(other) undo(*many=1) redo(*many=1) twin() rows() audit() claim(name) reason(name) leans(name)
+        least(name) !names() !changes() __contains__(value) __len__() __eq__(other) __str__() __init__()""",
+    ("zeroorone.text.shell", "Shell"): "say(line) run(lines) book() __str__() __init__()",
 }
 CONSTANTS = {
     "zeroorone.base.numbers": {"MAX_GROUND": 9999, "MAX_DIGITS": 60, "MAX_EXPONENT": 1000, "MAX_RESTS": 6},
@@ -64,6 +88,9 @@ CONSTANTS = {
     "zeroorone.letter.rests": {"MAX_DEGREE": 12, "MOST_PAIRS": 4},
     "zeroorone.many.terms": {"MAX_FORM_DEGREE": 12, "MAX_FORMS": 6, "MAX_MADE_DEGREE": 60},
     "zeroorone.many.bases": {"MAX_JUDGED": 12},
+    "zeroorone.points.points": {"MAX_DEGREE": 4, "MAX_ZEROS": 6, "MAX_OTHERS": 3, "MAX_CASES": 32, "MAX_DEPTH": 6},
+    "zeroorone.many.parted": {"MAX_TOTAL": 4},
+    "zeroorone.book.book": {"MAX_LINES": 60, "MAX_NAME": 8},
 }
 
 
@@ -86,6 +113,19 @@ class Interface(unittest.TestCase):
             found = definitions(module, ast.ClassDef)
             for name in told.split():
                 self.assertIn(name, found)
+
+    def test_methods_are_defined_in_their_classes(self):
+        for (module, name), told in METHODS.items():
+            body = {node.name: node for node in definitions(module, ast.ClassDef)[name].body
+                    if isinstance(node, ast.FunctionDef)}
+            for sign, method, arguments in re.findall(r"([@!]?)(\w+)\((.*?)\)", told):
+                node = body[method]
+                decorators = {"@": ["classmethod"], "!": ["property"], "": []}[sign]
+                self.assertEqual([decorator.id for decorator in node.decorator_list], decorators)
+                kept = ["*" + one.arg + "=" + str(default.value)
+                        for one, default in zip(node.args.kwonlyargs, node.args.kw_defaults)]
+                found = [one.arg for one in node.args.args][1:] + kept
+                self.assertEqual(",".join(found), arguments, method)
 
     def test_constants(self):
         for module, told in CONSTANTS.items():

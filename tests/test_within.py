@@ -50,7 +50,7 @@ def judge_lots(case, claim, paper):
     if kind == "same lot":
         there, back = paper
         for forms, told_forms, multiples in ((gens, others, there), (others, gens, back)):
-            case.assertEqual(len(forms), len(multiples))
+            case.assertTrue(isinstance(multiples, tuple) and len(forms) == len(multiples))
             for form, told_multiples in zip(forms, multiples):
                 judge_multiples(case, ground, size, form, told_forms, told_multiples)
         return
