@@ -3,9 +3,9 @@ from fractions import Fraction
 from itertools import combinations, product
 from math import gcd
 
-from forms import crossed, head, leads, mixed, plus, power, rank, term, times, total
-from helping import is_ground, is_integer, is_number, read, told
-from polys import halves, judge_parted, judge_parts, judge_unsplit_modulo, made, plus as poly_plus, rest
+from forms import head, judge_basis, leads, mixed, plus, power, rank, term, times
+from helping import is_ground, is_integer, is_number, told
+from polys import judge_parted, judge_parts, judge_unsplit_modulo, made, plus as poly_plus, rest
 from polys import times as poly_times
 from test_atleast import judge as judge_wishes
 from test_chains import judge_alone, judge_order, judge_roots, judge_sign
@@ -16,7 +16,6 @@ from test_solving import judge_rank, judge_solved
 from test_stairs import judge_finite, judge_least_poly, judge_tables
 from test_whole import determinant, parts as table_parts, told_stairs
 from test_within import judge_free, judge_lots, judge_meet, judge_quotient, judge_taken_out, judge_within
-from forms import judge_basis
 
 MOST = 10 ** 4
 FORM_KINDS = ("basis", "within", "same lot", "meet", "quotient", "taken out", "free", "finite", "endless", "tables",

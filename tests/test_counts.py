@@ -8,6 +8,7 @@ from helping import BIG, GROUND, HALF, LESS, ODD, ONE, TWO, ZERO, Case, is_numbe
 from judging import is_paper, told_signs
 from polys import made, times as poly_times
 from sampling import finite_forms
+from test_stairs import at as value_at
 
 from zeroorone import errors
 from zeroorone.paper.checker import takes
@@ -31,11 +32,6 @@ def grid_forms(rows):
 
 def with_roots(*roots):
     return poly_times(0, *[made(0, [-Fraction(root), 1]) for root in roots])
-
-
-def value_at(form, place):
-    return sum(Fraction(*number) * product_of(Fraction(x) ** k for x, k in zip(place, key))
-               for key, number in form.items())
 
 
 def product_of(values):

@@ -4,7 +4,7 @@ from fractions import Fraction
 from itertools import combinations, permutations
 
 from forms import closed, form_rule, head, is_ascending, plus, power, random_form, size_rule, term, times
-from helping import BIG, HALF, LESS, ODD, ONE, TWO, ZERO, Case, is_integer, told
+from helping import BIG, HALF, LESS, ODD, ONE, TWO, ZERO, Case, is_integer
 from judging import is_paper, put_letters, unit_key
 
 from zeroorone import errors

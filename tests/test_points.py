@@ -8,6 +8,7 @@ from helping import BIG, HALF, LESS, ODD, ONE, TWO, ZERO, Case, told
 from judging import at, is_paper, told_cases
 from polys import common, made, plus as poly_plus, slope, times as poly_times, value as poly_value
 from sampling import wish_of
+from test_stairs import at as value_at
 
 from zeroorone import errors
 from zeroorone.paper.checker import takes
@@ -31,16 +32,6 @@ def low_rule(size):
 def tuple_rule(size, many):
     return (errors.InvalidForm, None, lambda value: isinstance(value, tuple) and len(value) <= many
             and all(is_low(size, one) for one in value))
-
-
-def value_at(form, place):
-    result = Fraction(0)
-    for key, number in form.items():
-        part = Fraction(*number)
-        for entry, exponent in zip(place, key):
-            part *= Fraction(entry) ** exponent
-        result += part
-    return result
 
 
 def less_value(form, place):

@@ -43,90 +43,88 @@ def trace_table(size, forms, form):
     return tuple([tuple([quotient(0, number, bottom) for number in row]) for row in inner])
 
 
-class Change:
-    """A table of integers, equal to itself turned, on the way to a change.
+def row_divisor(row):
+    """The greatest common divisor of the integers of a row."""
+    common = 0
+    for number in row:
+        common = gcd(common, number)
+    return common
 
-    The lines are what is left of the table, and behind it the rows of the change so far, in integers that are all
-    determinants. The columns undo the exchanges and sums of rows alone.
+
+class Change:
+    """The rows of a change of a table of integers that is equal to itself turned, on the way.
+
+    Beside each row stand what the table leads it to, and its dual: the product of both is not 0, and that of the dual
+    and of any other row is 0, but for rows that are taken out already.
     """
 
     def __init__(self, table):
         many = len(table)
-        self.lines = [list(row) + [1 if i == j else 0 for j in range(many)] for i, row in enumerate(table)]
-        self.columns = [[1 if i == j else 0 for j in range(many)] for i in range(many)]
         self.many = many
-        self.before = 1
+        self.steps = [[1 if i == j else 0 for j in range(many)] for i in range(many)]
+        self.led = [list(row) for row in table]
+        self.duals = [list(row) for row in self.steps]
+
+    def worth(self, i, j):
+        """The sum of the products of a row and of what the table leads another one to."""
+        return integer_dot(self.steps[i], self.led[j])
 
     def exchange(self, i, j):
-        """Exchange two rows, and the two columns."""
-        lines, columns = self.lines, self.columns
-        lines[i], lines[j] = lines[j], lines[i]
-        for line in lines:
-            line[i], line[j] = line[j], line[i]
-        columns[i], columns[j] = columns[j], columns[i]
+        """Exchange two rows."""
+        for rows in (self.steps, self.led, self.duals):
+            rows[i], rows[j] = rows[j], rows[i]
 
     def join_rows(self, i, j):
-        """Put the row j to the row i, and the column j to the column i."""
-        self.lines[i] = [x + y for x, y in zip(self.lines[i], self.lines[j])]
-        for line in self.lines:
-            line[i] = line[i] + line[j]
-        self.columns[j] = [x - y for x, y in zip(self.columns[j], self.columns[i])]
+        """Put the row j to the row i."""
+        here, there = integer_dot(self.steps[i], self.duals[i]), integer_dot(self.steps[j], self.duals[j])
+        self.duals[j] = [here * x - there * y for x, y in zip(self.duals[j], self.duals[i])]
+        for rows in (self.steps, self.led):
+            rows[i] = [x + y for x, y in zip(rows[i], rows[j])]
 
     def bring(self, at):
-        """Bring a number other than 0 to the place (at, at); whether there is one."""
+        """Bring a row with a value other than 0 by itself to the place `at`; whether there is one."""
         for i in range(at, self.many):
-            if self.lines[i][i] != 0:
+            if self.worth(i, i) != 0:
                 self.exchange(at, i)
                 return True
         for i in range(at, self.many):
             for j in range(i + 1, self.many):
-                if self.lines[i][j] != 0:
+                if self.worth(i, j) != 0:
                     self.join_rows(i, j)
                     self.exchange(at, i)
                     return True
         return False
 
     def take_out(self, at):
-        """Take the place (at, at) out of the later rows."""
-        upper = self.lines[at]
-        head = upper[at]
+        """Take the row at this place out of the later ones, so that its values with them are 0."""
+        head = self.worth(at, at)
         for i in range(at + 1, self.many):
-            low = self.lines[i][at]
-            # All numbers are determinants, so the division leaves no rest.
-            self.lines[i] = [(head * x - low * y) // self.before for x, y in zip(self.lines[i], upper)]
-        self.before = head
-
-
-def shortened(row):
-    """The integers, divided by what divides all of them, and this divisor."""
-    common = 0
-    for number in row:
-        common = gcd(common, number)
-    return ([number // common for number in row], common)
+            low = self.worth(at, i)
+            if low != 0:
+                row = [head * x - low * y for x, y in zip(self.steps[i], self.steps[at])]
+                led = [head * x - low * y for x, y in zip(self.led[i], self.led[at])]
+                # What divides a row divides what the table leads it to.
+                common = row_divisor(row)
+                self.steps[i] = [number // common for number in row]
+                self.led[i] = [number // common for number in led]
 
 
 def changed(rows):
     """(change, undoing) of a table of integers, equal to itself turned."""
-    many = len(rows)
     work = Change(rows)
     rank = 0
-    while rank < many and work.bring(rank):
+    while rank < work.many and work.bring(rank):
         work.take_out(rank)
         rank += 1
-    change, undoing = [], []
-    for at, line in enumerate(work.lines):
-        row, common = shortened(line[many:])
-        change.append(tuple([(number, 1) for number in row]))
-        if at < rank:
-            # What the table leads the row to, divided by the number at its place, is 1 for this row and 0 for others.
-            led = [integer_dot(upper, row) for upper in rows]
-            bottom = integer_dot(led, row)
-            undoing.append([quotient(0, number, bottom) for number in led])
-        else:
-            undoing.append([quotient(0, number * common, work.before) for number in work.columns[at]])
-    if many == 0:
+    undoing = []
+    for at, step in enumerate(work.steps):
+        # The product of this column and of the row is 1, with all other rows it is 0.
+        column = work.led[at] if at < rank else work.duals[at]
+        bottom = integer_dot(step, column)
+        undoing.append([quotient(0, number, bottom) for number in column])
+    if len(rows) == 0:
         return ((), ())
-    return (tuple(change), turned(undoing))
+    return (tuple([tuple([(number, 1) for number in step]) for step in work.steps]), turned(undoing))
 
 
 def check_even(table):

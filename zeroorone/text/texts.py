@@ -221,4 +221,4 @@ def read_book(value):
             raise ParseError(index)
         lines.append(line)
         known[line[0]] = True
-    return Book.told(tuple(lines))
+    return Book().told(tuple(lines))
