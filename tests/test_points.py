@@ -264,6 +264,21 @@ class Points(Case):
         self.check(3, ({(1, 1, 1): ONE},), ({(1, 1, 0): ONE},), "point")
         self.check(3, ({(1, 1, 1): ONE},), ({(1, 1, 0): ONE}, {(0, 0, 1): ONE}), "no point")
 
+    def test_points_beside_a_line_on_which_the_others_are_0(self):
+        # The letters that are free there are not free at the points that are looked for.
+        source = random.Random(11)
+        kinds = []
+        for _ in range(60):
+            size = source.randint(2, 3)
+            place = tuple(source.randint(-3, 3) for _ in range(size))
+            lines = [less_value(random_form(source, 0, size, 1, 3, 3), (0,) * size) for _ in range(size - 1)]
+            zeros = tuple(times(0, source.choice(lines), less_value(random_form(source, 0, size, 2, 3, 3), place))
+                          for _ in range(source.randint(1, 4)))
+            others = tuple(source.choice(lines) for _ in range(source.randint(1, 2)))
+            wanted = "point" if all(value_at(other, place) != 0 for other in others) else None
+            kinds.append(self.check(size, zeros, others, wanted)[0])
+        self.assertEqual(set(kinds), {"point", "no point"})
+
     def test_random_systems_have_one_of_both(self):
         source = random.Random(5)
         kinds = set()

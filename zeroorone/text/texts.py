@@ -215,7 +215,8 @@ def read_book(value):
     """The book with this text."""
     check_text(value)
     lines, known = [], {}
-    for index, row in enumerate(value.split("\n") if value != "" else []):
+    rows = value.split("\n") if value != "" else []
+    for index, row in enumerate(rows):
         line = told_line(row)
         if index >= MAX_LINES or line is None or not line_fits(line, known):
             raise ParseError(index)
