@@ -8,6 +8,8 @@ from zeroorone.paper.numbers import LAST_GROUND, is_row, prime_fits
 from zeroorone.primes.every import led
 
 LONGEST_NAME = 8
+# The greatest ground, which lets all numbers that any other prime one lets.
+LAST_PRIME = 9973
 # The kinds of steps, and how many names each one has.
 NAMED = {"sum": 2, "times": 1, "through": 2, "turned": 1, "chain": 2, "beside": 2, "parts": 2, "at": 1}
 
@@ -23,8 +25,8 @@ def is_some_form(value):
     """Whether the value is a form of some ground and of a size from 1 to 4."""
     if not isinstance(value, dict):
         return False
-    # The last prime below the limit lets all numbers that any other one lets.
-    return any([form_fits(ground, size, value, None, None) for ground in (0, 9973) for size in range(1, MOST_SIZE + 1)])
+    sizes = range(1, MOST_SIZE + 1)
+    return any([form_fits(ground, size, value, None, None) for ground in (0, LAST_PRIME) for size in sizes])
 
 
 def step_fits(value):

@@ -71,15 +71,16 @@ class Change:
 
     def exchange(self, i, j):
         """Exchange two rows."""
-        for rows in (self.steps, self.led, self.duals):
-            rows[i], rows[j] = rows[j], rows[i]
+        self.steps[i], self.steps[j] = self.steps[j], self.steps[i]
+        self.led[i], self.led[j] = self.led[j], self.led[i]
+        self.duals[i], self.duals[j] = self.duals[j], self.duals[i]
 
     def join_rows(self, i, j):
         """Put the row j to the row i."""
         here, there = integer_dot(self.steps[i], self.duals[i]), integer_dot(self.steps[j], self.duals[j])
         self.duals[j] = [here * x - there * y for x, y in zip(self.duals[j], self.duals[i])]
-        for rows in (self.steps, self.led):
-            rows[i] = [x + y for x, y in zip(rows[i], rows[j])]
+        self.steps[i] = [x + y for x, y in zip(self.steps[i], self.steps[j])]
+        self.led[i] = [x + y for x, y in zip(self.led[i], self.led[j])]
 
     def bring(self, at):
         """Bring a row with a value other than 0 by itself to the place `at`; whether there is one."""
