@@ -25,8 +25,10 @@ def is_some_form(value):
     """Whether the value is a form of some ground and of a size from 1 to 4."""
     if not isinstance(value, dict):
         return False
-    sizes = range(1, MOST_SIZE + 1)
-    return any([form_fits(ground, size, value, None, None) for ground in (0, LAST_PRIME) for size in sizes])
+    for size in range(1, MOST_SIZE + 1):
+        if form_fits(0, size, value, None, None) or form_fits(LAST_PRIME, size, value, None, None):
+            return True
+    return False
 
 
 def step_fits(value):
